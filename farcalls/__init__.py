@@ -1,0 +1,1 @@
+"""Farcalls: far things, called, moved, kept and known lost."""

@@ -1,0 +1,87 @@
+"""The interface, as far as it is built, and the rules of the language that a test can see at once."""
+
+import ast
+import importlib
+import inspect
+import os
+import unittest
+
+FOLDER = os.path.join(os.path.dirname(os.path.dirname(os.path.abspath(__file__))), "farcalls")
+
+FUNCTIONS = {
+    "plans": {"need_plan": "(thing)", "fields_of": "(plan, kind)", "words_of": "(plan, kind)"},
+    "acting": {"act": "(plan, kind, fields, call, *, me, word, args=())"},
+}
+CLASSES = {
+    "near": {"Near": {
+        "__init__": "(self, plan)", "make": "(self, kind, *, args=())", "call": "(self, to, word, *, args=())",
+        "turn": "(self)", "turns": "(self, most=400)", "settled": "(self, name)", "stands": "(self, name)",
+        "things": "(self)", "line": "(self)", "__len__": "(self)"}},
+}
+LIBRARY = {"heapq", "math", "itertools", "__future__"}
+
+
+def texts():
+    """The name and the text of each file of the package."""
+    for folder, _, names in os.walk(FOLDER):
+        if os.path.basename(folder) == "__pycache__":
+            continue
+        for name in sorted(names):
+            with open(os.path.join(folder, name), encoding="utf-8") as file:
+                yield name, file.read()
+
+
+class Interface(unittest.TestCase):
+    def test_functions(self):
+        for file, functions in FUNCTIONS.items():
+            module = importlib.import_module(f"farcalls.{file}")
+            for name, wanted in functions.items():
+                function = getattr(module, name)
+                self.assertEqual(function.__module__, module.__name__)
+                self.assertEqual(str(inspect.signature(function)), wanted)
+
+    def test_classes(self):
+        for file, classes in CLASSES.items():
+            module = importlib.import_module(f"farcalls.{file}")
+            for name, methods in classes.items():
+                self.assertEqual(getattr(module, name).__module__, module.__name__)
+                for method, wanted in methods.items():
+                    with self.subTest(method):
+                        self.assertIn(method, vars(getattr(module, name)))
+                        self.assertEqual(str(inspect.signature(vars(getattr(module, name))[method])), wanted)
+
+
+class Rules(unittest.TestCase):
+    def test_files(self):
+        for name, _ in texts():
+            self.assertRegex(name, "^[a-z0-9_]+[.]py$")
+
+    def test_sizes(self):
+        for name, text in texts():
+            with self.subTest(name):
+                self.assertLessEqual(len(text.splitlines()), 399)
+                self.assertLessEqual(max([len(line) for line in text.splitlines()]), 120)
+                for node in ast.walk(ast.parse(text)):
+                    if isinstance(node, ast.FunctionDef):
+                        self.assertLessEqual(node.end_lineno - node.lineno + 1, 40)
+
+    def test_signs(self):
+        for name, text in texts():
+            with self.subTest(name):
+                self.assertTrue(all(sign == "\n" or " " <= sign <= "~" for sign in text))
+                for node in ast.walk(ast.parse(text)):
+                    if isinstance(node, ast.Constant) and isinstance(node.value, str):
+                        self.assertNotIn("%", node.value)
+
+    def test_imports(self):
+        for name, text in texts():
+            for node in ast.walk(ast.parse(text)):
+                with self.subTest(name):
+                    self.assertNotIsInstance(node, (ast.Import, ast.Global, ast.AsyncFunctionDef, ast.Div))
+                    if isinstance(node, ast.ImportFrom):
+                        self.assertEqual(node.level, 0)
+                        self.assertTrue(node.module in LIBRARY or node.module.startswith("farcalls."))
+
+
+if __name__ == "__main__":
+    unittest.main()
