@@ -1,6 +1,7 @@
 """The interface, as far as it is built, and the rules of the language that a test can see at once."""
 
 import ast
+import builtins
 import importlib
 import inspect
 import os
@@ -11,13 +12,29 @@ FOLDER = os.path.join(os.path.dirname(os.path.dirname(os.path.abspath(__file__))
 FUNCTIONS = {
     "plans": {"need_plan": "(thing)", "fields_of": "(plan, kind)", "words_of": "(plan, kind)"},
     "acting": {"act": "(plan, kind, fields, call, *, me, word, args=())"},
+    "plantexts": {"show_worth": "(worth)", "show_plan": "(plan)", "read_plan": "(text)"},
+    "judged": {"first_odd": "(plan, outer, acts, *, lost=())"},
 }
 CLASSES = {
     "near": {"Near": {
         "__init__": "(self, plan)", "make": "(self, kind, *, args=())", "call": "(self, to, word, *, args=())",
         "turn": "(self)", "turns": "(self, most=400)", "settled": "(self, name)", "stands": "(self, name)",
         "things": "(self)", "line": "(self)", "__len__": "(self)"}},
+    "wires": {"Wire": {
+        "__init__": "(self)", "put": "(self, row)", "letter": "(self)", "take": "(self, letter)", "heard": "(self)",
+        "unheard": "(self)", "__eq__": "(self, other)", "__len__": "(self)"}},
+    "houses": {"House": {
+        "__init__": "(self, plan, number)", "make": "(self, kind, *, args=())", "call": "(self, to, word, *, args=())",
+        "offer": "(self, house, name)", "let_go": "(self, name)", "turn": "(self)", "take": "(self, house, letter)",
+        "post": "(self)", "again": "(self)", "lost": "(self, house)", "sweep": "(self)", "mark": "(self, number)",
+        "clear": "(self, number)", "settled": "(self, name)", "stands": "(self, name)", "things": "(self)",
+        "line": "(self)", "held": "(self)", "names": "(self)", "view": "(self)", "copy": "(self)",
+        "__eq__": "(self, other)", "__len__": "(self)", "__str__": "(self)"}},
 }
+# names that the language bars for attributes, and words that it bars everywhere
+BARRED = {"items", "keys", "values", "pop", "update", "append", "clear", "extend", "insert", "remove", "reverse", "setdefault",
+          "sort", "args", "encode", "decode", "hex", "fromhex", "format", "format_map", "mro"}
+WORDS = {"type", "typing", "enum", "register", "elements", "open", "input", "law", "version_info"}
 LIBRARY = {"heapq", "math", "itertools", "__future__"}
 
 
@@ -72,6 +89,25 @@ class Rules(unittest.TestCase):
                 for node in ast.walk(ast.parse(text)):
                     if isinstance(node, ast.Constant) and isinstance(node.value, str):
                         self.assertNotIn("%", node.value)
+
+    def test_names(self):
+        methods, attributes = set(), set()
+        for name, text in texts():
+            for node in ast.walk(ast.parse(text)):
+                with self.subTest(name):
+                    if isinstance(node, ast.ClassDef):
+                        methods.update(part.name for part in node.body if isinstance(part, ast.FunctionDef))
+                    if isinstance(node, ast.Attribute) and isinstance(node.ctx, ast.Store):
+                        attributes.add(node.attr)
+                    if isinstance(node, (ast.Name, ast.arg, ast.Attribute)):
+                        word = getattr(node, "id", getattr(node, "arg", getattr(node, "attr", None)))
+                        self.assertNotIn(word, WORDS)
+                    if isinstance(node, ast.arg):
+                        self.assertNotIn(node.arg, set(dir(builtins)))
+                    if isinstance(node, ast.Name) and isinstance(node.ctx, ast.Store):
+                        self.assertNotIn(node.id, set(dir(builtins)))
+        self.assertEqual(methods & attributes, set())
+        self.assertEqual(attributes & BARRED, set())
 
     def test_imports(self):
         for name, text in texts():

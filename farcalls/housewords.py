@@ -1,0 +1,30 @@
+"""A house's text, point 29: all that it was told, so that another house could be told the same."""
+
+from farcalls.plantexts import show_plan
+
+
+def house_text(plan, number, view):
+    """The text of a house: its plan, its number and its view."""
+    entries = [show(entry) for entry in view]
+    body = "\n".join([f"house {number}", show_plan(plan), *entries])
+    return f"{body}\n{check_of(body)}"
+
+
+def show(thing):
+    """The text of what can stand in a view, one for each, kind for kind."""
+    if isinstance(thing, tuple):
+        parts = "".join([show(part) for part in thing])
+        return f"<{parts}>"
+    if isinstance(thing, str):
+        return f"{len(thing)}'{thing}"
+    if isinstance(thing, bool):
+        return "t" if thing else "f"
+    return "-" if thing is None else f"{thing};"
+
+
+def check_of(body):
+    """A row that is another one for each text in which one sign is put in, left out or another one."""
+    total = 0
+    for sign in body:
+        total += ord(sign)
+    return f"check {len(body)} {total}"

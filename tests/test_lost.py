@@ -1,0 +1,302 @@
+"""Lost houses: points 20 to 22, and of point 24 what is kept through falls."""
+
+import unittest
+
+from farcalls.houses import House
+from helpers import Case
+from test_houses import Far, kept, to
+from web import LOST, PLAN, Web
+
+
+class Told(Far):
+    def test_nothing_goes_to_a_lost_house(self):
+        web = self.web
+        house = web[0]
+        house.offer(1, "0#0")
+        house.lost(1)
+        self.told(house.post(), [])
+        self.told(house.again(), [])
+        house.offer(1, "0#0")
+        self.told(house.again(), [])
+
+    def test_letters_of_a_lost_house_are_passed_over(self):
+        web = self.web
+        web.offer(1, 0, "1#0")
+        (_, _, letter), = web.net
+        web[0].lost(1)
+        self.told(web[0].take(1, letter), None)
+        self.told(web[0].held(), ["0#0"])
+        web[0].take(1, ("what", "ever"))
+        web[0].take(1, ())
+        self.told(web[0].view()[-1], ("take", (1, ()), None))
+        self.told(web[0].post(), [])
+
+    def test_letters_posted_ahead_may_be_taken(self):
+        web = self.web
+        web.offer(1, 0, "1#0")
+        web.fall(1)
+        web.taken(1, 0)
+        self.told(web[0].held(), ["0#0", "1#0"])
+
+    def test_told_again(self):
+        web = self.web
+        self.share((0, "1#0"))
+        call = web.call(0, "1#0", "get")
+        web.lost(0, 1)
+        self.told(web[0].settled(call), LOST)
+        names, texts = web[0].names(), web[0].settled(call)
+        web[0].lost(1)
+        self.told((web[0].names(), web[0].settled(call)), (names, texts))
+        self.told(web[0].view()[-1], ("lost", (1,), None))
+
+    def test_a_thing_stays_where_it_is(self):
+        house = House(PLAN, 0)
+        house.lost(4)
+        node = house.make("node")
+        call = house.call(node, "go", args=(4,))
+        self.told(house.turn(), (call, node, "go", (4,), kept(to(node)), ()))
+        self.told(house.things(), [node])
+        self.told(house.post(), [])
+
+
+class Lost(Far):
+    def test_calls_on_what_stood_there(self):
+        web = self.web
+        self.share((0, "1#0"))
+        call = web.call(0, "1#0", "get")
+        on_it = web.call(0, call, "get")
+        watch = web.call(0, "0#0", "watch", to(on_it))
+        web.turn(0)
+        web.fall(1)
+        web.lost(0, 1)
+        self.told_there(0, call, "broken", "lost")
+        self.told_there(0, on_it, "broken", "lost")
+        web.settle()
+        self.told(web.rows()[-1], (f"{watch}.0", "0#0", "seen", (0, "lost"), kept("lost"), ((0, "lost"),)))
+        later = web.call(0, "1#0", "get")
+        self.told_there(0, later, "broken", "lost")
+        self.told(web[0].settled("1#0"), ("thing",))
+
+    def test_what_acted_and_was_told_stays(self):
+        web = self.web
+        self.share((0, "1#0"))
+        call = web.call(0, "1#0", "self")
+        web.settle()
+        web.fall(1)
+        web.lost(0, 1)
+        self.told_there(0, call, "kept", to("1#0"))
+        on_it = web.call(0, call, "get")
+        self.told_there(0, on_it, "broken", "lost")
+
+    def test_an_answer_that_was_posted_ahead(self):
+        web = self.web
+        self.share((0, "1#0"))
+        call = web.call(0, "1#0", "get")
+        web.taken(0, 1)
+        web.turn(1)
+        web.fall(1)
+        web.taken(1, 0)
+        web.lost(0, 1)
+        self.told_there(0, call, "kept", None)
+
+    def test_what_has_to_do_with_other_houses(self):
+        web = self.web
+        self.share((0, "1#0"))
+        call = web.call(0, "1#0", "get")
+        web.fall(2)
+        web.lost(0, 2)
+        self.told_there(0, call, "open")
+        web.settle()
+        web.lost(1, 2)
+        self.told_there(0, call, "kept", None)
+
+    def test_what_hangs_on_a_lost_one(self):
+        web = self.web
+        self.share((0, "1#0"), (1, "2#0"))
+        call = web.call(0, "1#0", "ask", to("1#0"))
+        far = web.call(1, "1#0", "ask", to("2#0"))
+        web.offer(1, 0, far)
+        web.taken(0, 1)
+        web.taken(1, 0)
+        while web[1].line():
+            web.turn(1)
+        web.fall(2)
+        web.lost(1, 2)
+        web.settle()
+        self.told(web[1].settled(far), LOST)
+        self.told_there(0, far, "broken", "lost")
+        self.told_there(0, call, "kept", None)
+
+    def test_a_fallen_house_on_the_way(self):
+        # house 0 knows the thing, which went on from 1 to 2, by house 1
+        web = self.web
+        self.share((0, "1#0"))
+        web.call(1, "1#0", "go", 2)
+        web.settle()
+        call = web.call(0, "1#0", "get")
+        web.fall(1)
+        web.lost(0, 1)
+        web.lost(2, 1)
+        web.settle()
+        self.told_there(0, call, "broken", "lost")
+        self.told(web[2].things(), ["1#0", "2#0"])
+
+    def test_told_by_one_who_is_told_later(self):
+        # house 1 stands between, and comes to know of the fall later than house 0
+        web = self.web
+        self.share((1, "2#0"))
+        web.call(1, "1#0", "ask", to("2#0"))
+        self.share((0, "1#0"))
+        call = web.call(0, "1#0", "self")
+        ask = web.call(1, "2#0", "get")
+        web.offer(1, 0, ask)
+        web.taken(1, 0)
+        web.fall(2)
+        web.lost(0, 2)
+        web.settle()
+        self.told_there(0, ask, "open")
+        web.lost(1, 2)
+        web.settle()
+        self.told_there(0, ask, "broken", "lost")
+        self.told_there(0, call, "kept", to("1#0"))
+
+    def test_a_thing_on_its_way_to_a_fallen_house(self):
+        web = self.web
+        web.call(0, "0#0", "go", 1)
+        behind = web.call(0, "0#0", "get")
+        web.turn(0)
+        web.fall(1)
+        web.lost(0, 1)
+        self.told_there(0, behind, "broken", "lost")
+        self.told_there(0, web.call(0, "0#0", "get"), "broken", "lost")
+        self.told([house.things() for house in (web[0], web[2])], [[], ["2#0"]])
+
+    def test_a_thing_that_came_from_a_fallen_house(self):
+        web = self.web
+        self.share((2, "1#0"))
+        web.call(1, "1#0", "go", 0)
+        web.turn(1)
+        web.fall(1)
+        web.taken(1, 0)
+        web.lost(0, 1)
+        web.lost(2, 1)
+        self.told(web[0].things(), ["0#0", "1#0"])
+        web.offer(0, 2, "0#0")
+        call = web.call(2, "1#0", "get")
+        self.told(web[2].settled(call), LOST)
+
+    def test_a_younger_call_does_not_wait_for_a_lost_one(self):
+        # the elder call is under way by house 1 when the thing comes; house 1 falls with it
+        web = self.web
+        web.call(0, "0#0", "go", 1)
+        self.share((2, "0#0"))
+        elder = web.call(2, "0#0", "put", 1)
+        web.taken(2, 0)
+        web.call(1, "1#0", "get")
+        web.offer(1, 0, "1#0")
+        web.settle()
+        self.told(web[2].settled(elder), kept())
+        back = web.call(0, "0#0", "go", 2)
+        web.taken(0, 1)
+        web.turn(1)
+        elder = web.call(2, "0#0", "put", 3)
+        web.taken(2, 0)
+        web.taken(1, 2)
+        web.net = [row for row in web.net if row[1] != 1]
+        younger = web.call(2, "0#0", "put", 4)
+        web.turn(2)
+        web.fall(1)
+        web.lost(0, 1)
+        web.lost(2, 1)
+        web.settle()
+        self.told(web[2].settled(elder), LOST)
+        self.told(web[2].settled(younger), kept())
+        self.told(web[2].stands("0#0")[1]["one"], 4)
+        self.assertIn(web[0].settled(back), (LOST, kept(to("0#0"))))
+
+    def test_nothing_waits_for_ever(self):
+        for told in ((0, 1, 2), (2, 1, 0), (1, 2, 0)):
+            web = Web(PLAN, 4)
+            nodes = [web.make(number, "node") for number in range(4)]
+            for number in range(4):
+                for other in range(4):
+                    if other != number:
+                        web.offer(number, other, nodes[number])
+            web.settle()
+            calls = []
+            for number in range(3):
+                for other in range(4):
+                    asked = web.call(number, nodes[other], "ask", to(nodes[3]))
+                    calls.append((number, asked))
+                    calls.append((number, web.call(number, asked, "self")))
+                    calls.append((number, web.call(number, nodes[number], "watch", to(asked))))
+            for _ in range(5):
+                web.turn(0)
+                if web.net:
+                    web.take(len(web.net) // 2)
+            web.fall(3)
+            for number in told:
+                web.lost(number, 3)
+                web.settle()
+            for number, call in calls:
+                self.assertNotEqual(web[number].settled(call), ("open",))
+
+
+class Kept(Far):
+    def test_what_never_came_to_the_fallen_house(self):
+        web = self.web
+        self.share((0, "1#0"))
+        promise = web.call(0, "1#0", "self")
+        web.settle()
+        web.fall(2)
+        web.lost(0, 2)
+        web.lost(1, 2)
+        web.sweeps()
+        web.round(1)
+        call = web.call(0, promise, "put", 4)
+        web.settle()
+        self.told_there(0, call, "kept", None)
+        self.told(web[1].stands("1#0")[1]["one"], 4)
+        self.told(web[0].names(), ["0#0", promise, call, "1#0"])
+
+    def test_made_by_acts_of_calls_of_a_house_that_fell(self):
+        # what house 2 asked to be made was never told to it
+        web = self.web
+        maker = web.make(1, "maker")
+        self.share((2, maker), (0, maker))
+        web.call(2, maker, "put", 6)
+        web.taken(2, 1)
+        web.fall(2)
+        web.turn(1)
+        new = f"{web.rows()[-1][0]}#0"
+        got = web.call(0, maker, "get")
+        web.settle()
+        web.lost(0, 2)
+        web.lost(1, 2)
+        self.told_there(0, got, "kept", to(new))
+        call = web.call(0, new, "get")
+        web.settle()
+        self.told_there(0, call, "kept", 6)
+
+
+class Judge(Case):
+    def test_a_thing_acts_at_one_house_only(self):
+        # the thing leaves a house that falls, and nothing of it is there twice
+        web = Web(PLAN, 3)
+        node = web.make(0, "node")
+        web.offer(0, 1, node)
+        web.settle()
+        web.call(0, node, "go", 1)
+        web.turn(0)
+        web.fall(0)
+        web.lost(2, 0)
+        web.taken(0, 1)
+        web.lost(1, 0)
+        call = web.call(1, node, "get")
+        web.settle()
+        self.told(web[1].settled(call), kept())
+        self.told(web[1].things(), [node])
+
+
+if __name__ == "__main__":
+    unittest.main()
