@@ -91,16 +91,7 @@ def settle(inside, call, outcome):
     if call in inside.outside:
         for name in names:
             hold(inside, name)
-    inside.later([(how, other, outcome) for how, other in waits] + freed(entry))
-
-
-def freed(entry):
-    """What there is to be done for those that wait for elder ones at a promise that is settled now."""
-    late = []
-    if is_known_bad(entry):
-        # none of them acts, and the elder ones may have been settled on their way here
-        late, entry.late = entry.late, late
-    return [("target", call, None) for call in late]
+    inside.later([(how, other, outcome) for how, other in waits])
 
 
 def take_off(inside, call, entry):
@@ -150,9 +141,7 @@ def target(inside, call, _):
     asking = inside.calls[call]
     name = asking.to
     entry = inside.entries.get(name)
-    if is_known_bad(entry):
-        inside.later([("call", call, entry.outcome)])
-    elif is_root(inside, name, entry):
+    if is_root(inside, name, entry):
         let_in(inside, call, asking, entry)
     elif may_ask_home(inside, name, entry):
         forward(inside, call, home_of(name), "direct")
@@ -167,13 +156,6 @@ def is_root(inside, name, entry):
     if names_thing(name):
         return name in inside.here
     return entry.parent is None and not entry.cut
-
-
-def is_known_bad(entry):
-    """Whether a promise is known here to be settled by no thing."""
-    if not isinstance(entry, Promise) or entry.outcome is None:
-        return False
-    return entry.outcome[0] == "broken" or not is_hold(entry.outcome[1])
 
 
 def home_of(name):

@@ -80,7 +80,7 @@ def goes_on(run, row):
         target, argses = run.whens[call][0], args_of_when(run, call)
     else:
         target, argses = target_of(run, put.to), [put.worths]
-    if target is None or target not in run.stays or not alike(thing, target) or not is_next(run, call):
+    if target not in run.stays or not alike(thing, target) or not is_next(run, call):
         return False
     if not alike(row[2], put.word) or not any([alike(row[3], args) for args in argses]):
         return False
@@ -92,12 +92,8 @@ def is_next(run, call):
     if call in run.whens:
         return True
     put = run.puts[call]
-    for other in run.rows[(put.by, put.to)]:
-        if other == call:
-            return True
-        if other not in run.outcomes and other not in run.spared:
-            return False
-    return True
+    row = run.rows[(put.by, put.to)]
+    return all([other in run.outcomes or other in run.spared for other in row[:row.index(call)]])
 
 
 def target_of(run, to):
@@ -105,40 +101,29 @@ def target_of(run, to):
     if names_thing(to):
         return to
     outcome = outcome_of(run, to)
-    if outcome is None or outcome[0] != "kept" or not is_hold(outcome[1]):
-        return None
-    return outcome[1][1]
+    return outcome[1][1] if outcome is not None and is_hold(outcome[1]) else None
 
 
 def outcome_of(run, promise):
     """What a promise is settled by, None where it is open."""
     # a row of promises, each of which waits or hangs on the next one, may be longer than calls can nest
-    waits, seen = [], {}
+    seen, waited = {}, False
     while promise not in seen:
         seen[promise] = True
         outcome = run.outcomes.get(promise)
         if outcome is None:
-            put = run.puts.get(promise)
-            if put is None or promise in run.whens or names_thing(put.to):
+            if promise not in run.puts:
                 return None
-            waits.append(True)
-            promise = put.to
-        elif outcome[0] == "kept" and holds_promise(outcome[1]):
-            waits.append(False)
+            waited = True
+            promise = run.puts[promise].to
+        elif holds_promise(outcome[1]):
             promise = outcome[1][1]
+        elif waited and outcome[0] == "kept":
+            # what was put on a thing's promise goes on to the thing, and may act yet
+            return None if is_hold(outcome[1]) else ODD
         else:
-            return behind(waits, outcome)
+            return outcome
     return None
-
-
-def behind(waits, outcome):
-    """What comes of an outcome behind a row of promises that wait (True), or hang, on one another."""
-    for waited in reversed(waits):
-        if waited and outcome[0] == "kept":
-            if is_hold(outcome[1]):
-                return None
-            outcome = ODD
-    return outcome
 
 
 def args_of_when(run, call):

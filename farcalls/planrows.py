@@ -2,7 +2,7 @@
 
 from farcalls.deeds import DEEP_X, MOST_AT, MOST_WHEN
 from farcalls.plans import MOST_FIELDS, MOST_PARAMS, are_unlike
-from farcalls.worths import MOST_DEEP, MOST_PARTS, is_bare, is_count, is_house, is_word
+from farcalls.worths import MOST_DEEP, MOST_PARTS, is_count, is_house, is_word
 
 MOST_FIGURES = 9
 ENDS = ("else", "end")
@@ -73,6 +73,8 @@ def a_worth(words, deep=MOST_DEEP):
     if word == "-":
         return None
     if word == "<":
+        if deep == 0:
+            raise NotRow()
         return a_tuple(words, deep - 1)
     if word.startswith("'"):
         if not is_word(word[1:]):
@@ -89,12 +91,9 @@ def a_tuple(words, deep):
     """Reads the parts of a tuple, and its end."""
     parts = []
     while words.ahead() != ">":
-        # stops in time: what is too deep is no worth, however deep it goes
-        if deep < 0 or len(parts) == MOST_PARTS:
-            raise NotRow()
         parts.append(a_worth(words, deep))
     words.one()
-    if deep < 0 or not is_bare(tuple(parts)):
+    if len(parts) > MOST_PARTS:
         raise NotRow()
     return tuple(parts)
 

@@ -92,7 +92,7 @@ def read_plan(text):
     """The plan of a text."""
     if not isinstance(text, str):
         raise BadText(0)
-    rows = text.split("\n") if text else []
+    rows = text.split("\n")
     reading = Rows()
     for at, row in enumerate(rows):
         if not reading.takes(read_row(row)):

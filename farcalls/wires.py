@@ -66,7 +66,7 @@ class Wire:
         if not isinstance(letter, tuple) or len(letter) != 4:
             return False
         word, first, rows, heard = letter
-        if not isinstance(word, str) or word != WORD or not is_number(first) or not is_number(heard):
+        if word != WORD or not is_number(first) or not is_number(heard):
             return False
         if not isinstance(rows, tuple) or not all([isinstance(row, tuple) for row in rows]):
             return False

@@ -6,7 +6,9 @@ import unittest
 from farcalls.houses import House
 from farcalls.judged import first_odd
 from farcalls.near import Near
+from farcalls.plans import fields_of
 from helpers import Case
+from test_near import PLAN as NEAR
 from web import LOST, PLAN, WORDS, Run, Web, drawn, holds_in, is_thing, worths
 
 
@@ -70,6 +72,7 @@ class Drawn(Case):
         """All that is held is kept; tells it."""
         stands = {name: number for number in web.up for name in web[number].things()}
         reached = run.held([name for number in web.up for name in web[number].held()])
+        self.assertLessEqual(reached, {name for names in web.all_names().values() for name in names})
         for name in reached:
             if "#" in name:
                 self.told(web[stands[name]].stands(name), run.things[name])
@@ -133,7 +136,8 @@ class Drawn(Case):
     def test_a_house_alone_goes_as_a_near_run(self):
         for seed in range(40):
             with self.subTest(seed):
-                alone(self, random.Random(seed))
+                alone(self, random.Random(seed), PLAN, WORDS)
+                alone(self, random.Random(seed), NEAR, [(method[0], len(method[1])) for kind in NEAR for method in kind[2]])
 
 
 def drawn_more(web, draw):
@@ -151,9 +155,9 @@ def drawn_more(web, draw):
     web.round(1, draw)
 
 
-def alone(case, draw):
+def alone(case, draw, plan, words):
     """Tells a house and a near run the same."""
-    house, near = House(PLAN, 0), Near(PLAN)
+    house, near = House(plan, 0), Near(plan)
     for other in range(1, 6):
         house.lost(other)
     for _ in range(60):
@@ -161,10 +165,11 @@ def alone(case, draw):
         what = draw.random()
         if what < 0.1 or not held:
             args = tuple(worths(draw, house) for _ in range(draw.randrange(3)))
-            kind = draw.choice(["node", "maker"])
+            kind = draw.choice(plan)[0]
+            args = args[:len(fields_of(plan, kind))]
             case.told(house.make(kind, args=args), near.make(kind, args=args))
         elif what < 0.6:
-            word, count = draw.choice(WORDS)
+            word, count = draw.choice(words)
             args = tuple(worths(draw, house) for _ in range(count))
             name = draw.choice(held)
             case.told(house.call(name, word, args=args), near.call(name, word, args=args))
@@ -220,7 +225,9 @@ class Falls(Case):
             house = web[number]
             told.update(name for name in house.held() if "#" not in name and house.settled(name)[-1] != "lost"
                         and house.settled(name) != ("open",))
-        lost = tuple(sorted((set(run.to) | set(run.waits)) - told))
+        # one house may know a call as lost, and another one what it came to
+        known = {run.waits[row[0]][1] for row in web.rows() if row[3][:2] == (0, "lost") and row[0] in run.waits}
+        lost = tuple(sorted((set(run.to) | set(run.waits)) - told | known))
         self.told(first_odd(PLAN, web.outer, web.rows(), lost=lost), None)
 
     def kept(self, web, run, fallen):

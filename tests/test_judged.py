@@ -69,6 +69,16 @@ class Judged(Case):
         self.odd(1, outer, good, row("0:1", "0#0", "put", [(1, 0)], kept()))
         self.odd(None, outer, good, row("0:1", "0#0", "put", ((1, 0),), kept()))
 
+    def test_words_that_are_not_known(self):
+        outer = [CELL, call("0:0", "0#0", "zz")]
+        self.odd(None, outer, row("0:0", "0#0", "zz", (), ("broken", "odd")))
+        self.odd(0, outer, row("0:0", "0#0", "yy", (), ("broken", "odd")))
+        self.odd(0, outer, row("0:0", "0#0", "zz", (1,), ("broken", "odd")))
+
+    def test_names_that_are_not_there(self):
+        self.odd(0, [CELL, call("0:0", "0:7", "get")], row("0:0", "0#0", "get", (), kept()))
+        self.odd(0, [CELL, call("0:0", "0#7", "get")], row("0:0", "0#7", "get", (), kept()))
+
     def test_fields_and_says(self):
         outer = [CELL, call("0:0", "0#0", "put", 7), call("0:1", "0#0", "get"), call("0:2", "0#0", "seen", 1, 2)]
         acts = [row("0:0", "0#0", "put", (7,), kept()), row("0:1", "0#0", "get", (), kept(7))]
@@ -180,6 +190,15 @@ class Judged(Case):
         self.odd(None, outer, *watch, lost[1], lost=("1:0",))
         self.odd(4, outer, *watch, lost[1], lost[2], lost=("1:0",))
         self.odd(1, outer, watch[0], lost[0], lost=("0:0", "1:0", "1:1"))
+
+    def test_a_when_on_what_waits(self):
+        # the first one is settled by a thing, so the second one goes on to that and is open yet
+        outer = [CELL, OTHER, call("1:0", "1#0", "self"), call("1:1", "1:0", "get"), call("0:0", "0#0", "watch", to("1:1"))]
+        acts = [row("0:0", "0#0", "watch", (to("1:1"),), kept()), row("1:0", "1#0", "self", (), kept(to("1#0")))]
+        self.odd(2, outer, *acts, row("0:0.0", "0#0", "seen", (0, "odd"), kept("odd"), ((0, "odd"),)))
+        self.odd(2, outer, *acts, row("0:0.0", "0#0", "seen", (1, to("1#0")), kept(to("1#0")), ((1, to("1#0")),)))
+        self.odd(None, outer, *acts, row("1:1", "1#0", "get", (), kept(5)),
+                 row("0:0.0", "0#0", "seen", (1, 5), kept(5), ((1, 5),)))
 
     def test_a_when_on_what_waits_for_a_lost_one(self):
         outer = [CELL, OTHER, call("1:0", "1#0", "self"), call("1:1", "1:0", "get"), call("0:0", "0#0", "watch", to("1:1"))]

@@ -6,7 +6,7 @@ from farcalls.errors import NoName
 from farcalls.houses import House
 from helpers import Case
 from test_houses import Far, kept, to
-from web import PLAN, Web
+from web import LOST, PLAN, Web
 
 
 class Moves(Far):
@@ -282,6 +282,84 @@ class Order(Far):
         two = web.call(1, promise, "put", 2)
         web.settle()
         self.first(promise, one, two)
+
+
+class Homes(Far):
+    """Calls that might go straight to the house where a thing was made."""
+
+    def test_a_house_that_forgot_it(self):
+        # the thing went from 2 to 1, and 2 keeps nothing of it; 0 knows it by 1
+        web = self.web
+        self.share((1, "2#0"))
+        web.call(1, "2#0", "go", 1)
+        web.settle()
+        web[2].let_go("2#0")
+        web[1].let_go("1:0")
+        web.sweeps()
+        self.told(web[2].names(), [])
+        web.offer(1, 0, "2#0")
+        web.settle()
+        calls = [web.call(0, "2#0", "put", 1), web.call(0, "2#0", "put", 2)]
+        web.settle()
+        self.told([web[0].settled(call) for call in calls], [kept(), kept()])
+        calls.append(web.call(0, "2#0", "get"))
+        web.settle()
+        self.told(web[0].settled(calls[-1]), kept(2))
+        web.let_all_go()
+        web.sweeps()
+        self.told(web.all_names(), {0: [], 1: [], 2: []})
+
+    def test_a_house_that_forgot_it_and_came_to_know_it_again(self):
+        web = self.web
+        self.share((1, "0#0"))
+        web.call(1, "0#0", "go", 1)
+        web.settle()
+        web[0].let_go("0#0")
+        web[1].let_go("1:0")
+        web.sweeps()
+        self.told(web[0].names(), [])
+        web.offer(1, 0, "0#0")
+        web.offer(1, 2, "0#0")
+        web.settle()
+        for number in (0, 2, 1):
+            call = web.call(number, "0#0", "self")
+            web.settle()
+            self.told(web[number].settled(call), kept(to("0#0")))
+            self.told(web.acts[-1][0], 1)
+
+    def test_a_house_that_fell(self):
+        # 0 knows the thing, which stands at 1, by 1; house 2, where it was made, has fallen
+        web = self.web
+        self.share((1, "2#0"))
+        web.call(1, "2#0", "go", 1)
+        web.settle()
+        web.offer(1, 0, "2#0")
+        web.settle()
+        web.fall(2)
+        web.lost(0, 2)
+        web.lost(1, 2)
+        call = web.call(0, "2#0", "get")
+        web.settle()
+        self.assertIn(web[0].settled(call), (kept(), LOST))
+
+    def test_names_told_by_the_thing_s_own_house_and_by_others(self):
+        web = self.web
+        self.share((0, "2#0"))
+        web.offer(0, 1, "2#0")
+        web.settle()
+        for _ in range(2):
+            call = web.call(1, "2#0", "self")
+            web.settle()
+            self.told(web[1].settled(call), kept(to("2#0")))
+        for name in ("2#0", "0#0"):
+            if name in web[0].held():
+                web[0].let_go(name)
+        web[2].let_go("2#0")
+        web.sweeps()
+        self.told(web.all_names(), {0: [], 1: ["1#0", "1:0", "1:1", "2#0"], 2: ["1:0", "1:1", "2#0"]})
+        web.let_all_go()
+        web.sweeps()
+        self.told(web.all_names(), {0: [], 1: [], 2: []})
 
 
 class Once(Far):

@@ -117,8 +117,8 @@ class Read(Case):
                   ". f", "**", "@0:0", "@", "<", ">", "< 1", "1 >", "<1>", "< 1 >>", "< 1 1 1 1 1 1 >", "< p >", "< * >",
                   "< .f >", "< @0:0 >", "< < < < > > > >", "< ( row ) >", "A", "abcdefghi", "p1", "{", "\"a\"",
                   "( plus ( plus ( plus ( plus 1 1 ) 1 ) 1 ) 1 )", "( row ( row ( row ( row ( row ) ) ) ) )",
-                  "( at ( at ( at ( at 1 1 ) 1 ) 1 ) 1 )", "( row ( row ( row ( row 1 ) ) ) )", "< " * 300 + "> " * 299 + ">",
-                  "( row " * 300 + ") " * 299 + ")"):
+                  "( at ( at ( at ( at 1 1 ) 1 ) 1 ) 1 )", "( row ( row ( row ( row 1 ) ) ) )", "< " * 5000 + "> " * 4999 + ">",
+                  "( row " * 5000 + ") " * 4999 + ")"):
             self.alone(f"say {x}", f"let v {x}", f"if {x}", f"when {x} get", f"make v a 1 {x}", f"call v 1 get 1 {x}")
 
     def test_x_that_goes(self):
@@ -128,6 +128,12 @@ class Read(Case):
             with self.subTest(x):
                 text = f"kind a f 1\ndoes m p\nsay {x}"
                 self.told(show_plan(read_plan(text)), text)
+
+    def test_as_many_as_can_be(self):
+        plan = (("abcdefgh", tuple((word, 1) for word in "abcde"), (
+            ("m", tuple("abcde"), (("make", "v", "abcdefgh", (ONE,) * 5), ("call", "v", ONE, "m", (ONE,) * 5),
+                                   ("when", ONE, "m", (ONE,) * 3))),)),)
+        self.told(read_plan(show_plan(plan)), plan)
 
     def test_kinds_fields_and_vars_are_aside(self):
         for row in ("say q", "say .g", "set g 1", "make v b", "make v a 1 1", "make v a 1 1 1 1 1"):
