@@ -3,7 +3,7 @@
 from farcalls.acting import act
 from farcalls.entries import Asking, Promise
 from farcalls.goings import (
-    LOST, come_to, do_all, forward, hold, put_call, put_when, set_elder, unlike,
+    LOST, come_to, do_all, forward, free, hold, put_call, put_when, unlike,
 )
 from farcalls.keepings import mark_all
 from farcalls.plans import filled
@@ -178,11 +178,11 @@ def stop_telling(entry, house):
         entry.tells = [other for other in entry.tells if other != house]
 
 
-def take_elder(inside, house, row):
+def take_free(inside, house, row):
     """A call need not wait any more for its elder one."""
-    _, call, to, elder, _ = row
+    _, call, to, _ = row
     if call in inside.entries:
-        set_elder(inside, call, to, elder)
+        free(inside, call, to)
 
 
 def take_mark(inside, house, row):
@@ -192,7 +192,7 @@ def take_mark(inside, house, row):
 
 TAKES = {
     "hold": take_hold, "thing": take_thing, "call": take_call, "told": take_told, "ask": take_ask,
-    "drop": take_drop, "elder": take_elder, "mark": take_mark,
+    "drop": take_drop, "free": take_free, "mark": take_mark,
 }
 
 
@@ -213,7 +213,7 @@ def lose(inside, house):
         entry = inside.entries[name]
         if isinstance(entry, Promise) and house in entry.came:
             # the house that put the call can't tell any more that an elder one is lost
-            set_elder(inside, name, entry.came.pop(house), None)
+            free(inside, name, entry.came.pop(house))
     do_all(inside)
 
 

@@ -103,19 +103,19 @@ def take_off(inside, call, entry):
             at = calls.index(call)
             del sent[at]
             if entry.outcome == LOST and at < len(sent):
-                set_elder(inside, sent[at][1], name, sent[at - 1][0] if at > 0 else None)
+                free(inside, sent[at][1], name)
 
 
-def set_elder(inside, call, to, elder):
-    """Has a call on a name wait for another elder one, or for none, where it isn't let in yet."""
+def free(inside, call, to):
+    """Has a call on a name wait for no elder one any more, wherever it is."""
     asking = inside.calls.get(call)
     if asking is None:
-        entry = inside.entries[call]
-        if entry.outcome is None and entry.parent is not None:
-            inside.send(entry.parent, ("elder", call, to, elder), [])
+        parent = inside.entries[call].parent
+        if parent is not None:
+            inside.send(parent, ("free", call, to), [])
     elif asking.to == to and asking.stamp is not None:
         house, number, _ = asking.stamp
-        asking.stamp = (house, number, elder)
+        asking.stamp = (house, number, None)
         late = inside.entries[to].late
         if call in late:
             late.remove(call)
@@ -187,19 +187,9 @@ def let_in(inside, call, asking, entry):
             return
         entry.table[house] = number
         asking.stamp = None
-        tasks.extend([("target", other, None) for other in taken_from_late(inside, entry, house, number)])
+        tasks.extend([("target", other, None) for other in entry.late])
+        entry.late = []
     inside.later(tasks)
-
-
-def taken_from_late(inside, entry, house, number):
-    """Takes those that wait till a house's call of this number was let in."""
-    free = []
-    for call in entry.late:
-        stamp = inside.calls[call].stamp
-        if stamp[0] == house and stamp[2] <= number:
-            free.append(call)
-    entry.late = [call for call in entry.late if call not in free]
-    return free
 
 
 def enter(inside, call, _):
@@ -218,7 +208,6 @@ def go_on_call(inside, call, outcome):
         asking.to = outcome[1][1]
         asking.stamp = stamp_of(inside, call, asking.to)
         entry.on.append(asking.to)
-        entry.came = {}
         inside.later([("target", call, None)])
     else:
         inside.later([("settle", call, ODD if outcome[0] == "kept" else outcome)])

@@ -242,6 +242,128 @@ class Lost(Far):
                 self.assertNotEqual(web[number].settled(call), ("open",))
 
 
+class Elder(Case):
+    """A call on a thing is kept back on its way by house 2, while the thing goes on, and a younger one comes to it."""
+
+    def start(self, *houses, by_promise=False):
+        """The thing `0#0` has the calls to go to 2, 1 and these houses, and came to 1; the elder call is behind it."""
+        self.web = web = Web(PLAN, 5)
+        thing = web.make(0, "node")
+        web.offer(0, 1, thing)
+        web.settle()
+        self.name = thing
+        if by_promise:
+            holder = web.make(1, "node", to(thing))
+            self.name = web.call(1, holder, "get")
+            web.settle()
+        for house in (2, 1) + houses:
+            web.call(0, thing, "go", house)
+        web.turn(0)
+        web.net = [row for row in web.net if row[:2] == (0, 2)]
+        self.elder = web.call(1, self.name, "put", 1)
+        web.taken(1, 0)
+        web.take(0)
+        self.kept_back = [row for row in web.net if row[:2] == (0, 2)]
+        web.net = [row for row in web.net if row[:2] != (0, 2)]
+        web.turn(2)
+        web.taken(2, 1)
+        self.told(web[1].things()[0], thing)
+
+    def first(self, *calls):
+        """These acted, in this order."""
+        acts = [row[0] for row in self.web.rows() if row[0] in calls]
+        self.told(acts, list(calls))
+
+    def test_it_comes_at_last(self):
+        for by_promise in (False, True):
+            self.start(3, by_promise=by_promise)
+            younger = self.web.call(1, self.name, "put", 2)
+            self.told(self.web[1].line()[1:], [])
+            self.web.turn(1)
+            self.web.taken(1, 3)
+            self.told(self.web[3].line(), [])
+            self.web.net.extend(self.kept_back)
+            self.web.settle()
+            self.first(self.elder, younger)
+
+    def test_it_is_lost_and_the_younger_one_goes_on(self):
+        for by_promise in (False, True):
+            self.start(by_promise=by_promise)
+            web = self.web
+            younger = web.call(1, self.name, "put", 2)
+            web.fall(2)
+            web.tell_all()
+            web.settle()
+            self.told(web[1].settled(self.elder), LOST)
+            self.told(web[1].settled(younger), kept())
+            self.first(younger)
+
+    def test_it_is_lost_and_the_younger_one_went_along(self):
+        for by_promise in (False, True):
+            self.start(3, by_promise=by_promise)
+            web = self.web
+            younger = web.call(1, self.name, "put", 2)
+            last = web.call(1, self.name, "put", 3)
+            web.turn(1)
+            web.taken(1, 3)
+            web.fall(2)
+            web.tell_all()
+            web.settle()
+            self.told(web[1].settled(self.elder), LOST)
+            self.told([web[1].settled(call) for call in (younger, last)], [kept(), kept()])
+            self.first(younger, last)
+            self.told(web[3].stands("0#0")[1]["one"], 3)
+
+    def test_the_house_that_put_both_falls(self):
+        # the younger one waits at 3 till house 1 is known as lost; then the thing goes to where the elder one comes
+        self.start(3, 2)
+        web = self.web
+        web.offer(1, 0, self.elder)
+        web.taken(1, 0)
+        web.turn(1)
+        web.taken(1, 3)
+        younger = web.call(1, "0#0", "put", 2)
+        web.offer(1, 3, younger)
+        web.taken(1, 3)
+        web.net = [row for row in web.net if row[:2] != (0, 2)]
+        web.fall(1)
+        web.lost(3, 1)
+        self.assertIn(younger, web[3].line())
+        web.turn(3)
+        web.taken(3, 2)
+        web.net.extend(self.kept_back)
+        web.settle()
+        web.tell_all()
+        web.settle()
+        acts = [row[0] for row in web.rows()]
+        self.assertIn(younger, acts)
+        if self.elder in acts and acts.index(self.elder) > acts.index(younger):
+            self.assertIn(LOST, (web[0].settled(self.elder), web[3].settled(younger)))
+        self.assertNotEqual(web[0].settled(self.elder), ("open",))
+
+    def test_a_promise_that_was_settled_at_a_fallen_house(self):
+        # the first call went by house 1 and stands in the line here; for the next one the way is lost
+        web = Web(PLAN, 3)
+        node, holder = web.make(0, "node"), web.make(1, "node")
+        web.offer(0, 1, node)
+        web.offer(1, 0, holder)
+        web.settle()
+        web.call(1, holder, "put", to(node))
+        web.settle()
+        promise = web.call(0, holder, "get")
+        first = web.call(0, promise, "put", 1)
+        web.taken(0, 1)
+        web.turn(1)
+        web.taken(1, 0)
+        self.told(web[0].line(), [first])
+        web.fall(1)
+        web.tell_all()
+        second = web.call(0, promise, "put", 2)
+        web.settle()
+        self.assertNotEqual(web[0].settled(second), ("open",))
+        self.assertNotEqual(web[0].settled(first), ("open",))
+
+
 class Kept(Far):
     def test_what_never_came_to_the_fallen_house(self):
         web = self.web
