@@ -29,7 +29,6 @@ def call_outside(inside, to, word, args):
     """Puts a call from outside, and tells its name."""
     name = f"{inside.number}:{inside.called}"
     inside.called += 1
-    inside.know(name)
     inside.outside[name] = True
     put_call(inside, name, to, word, args)
     return name
@@ -111,14 +110,12 @@ def take_call(inside, house, row):
     entry.table = dict(table)
     if house not in entry.tells:
         entry.tells.append(house)
-    if stamp is not None and stamp[0] != inside.number:
-        entry.came[house] = to
+    entry.came[house] = to
     inside.calls[call] = Asking(to, word, worths, stamp)
     if manner == "direct" and not is_known_here(inside, house, to):
         forward(inside, call, house, "vain")
         return
-    if to not in entry.on:
-        entry.on.append(to)
+    entry.on[to] = True
     if manner == "vain":
         inside.entries[to].vain = True
     inside.later([("target", call, None)])
@@ -135,8 +132,8 @@ def is_known_here(inside, house, thing):
 
 def turn_to(inside, house, thing):
     """Has the way to a thing go by a house where it stood: that is nearer than the one which told its name."""
-    entry = inside.entries.get(thing)
-    if entry is not None and not entry.been and entry.parent != house:
+    entry = inside.entries[thing]
+    if not entry.been and entry.parent != house:
         inside.give_back(thing)
         entry.parent = house
 
@@ -163,26 +160,18 @@ def take_ask(inside, house, row):
 def take_drop(inside, house, row):
     """A house gives counts of a name back."""
     _, name, many, _ = row
-    entry = inside.entries.get(name)
-    if entry is None:
-        return
+    entry = inside.entries[name]
     entry.out[house] -= many
     if entry.out[house] == 0:
         del entry.out[house]
-        stop_telling(entry, house)
-
-
-def stop_telling(entry, house):
-    """Tells a house no more what a promise comes to."""
-    if isinstance(entry, Promise):
-        entry.tells = [other for other in entry.tells if other != house]
+        if isinstance(entry, Promise):
+            entry.tells = [other for other in entry.tells if other != house]
 
 
 def take_free(inside, house, row):
     """A call need not wait any more for its elder one."""
     _, call, to, _ = row
-    if call in inside.entries:
-        free(inside, call, to)
+    free(inside, call, to)
 
 
 def take_mark(inside, house, row):
@@ -201,19 +190,14 @@ def lose(inside, house):
     inside.gone[house] = True
     inside.wires.pop(house, None)
     inside.fresh.pop(house, None)
-    names = sorted(list(inside.entries))
-    for name in names:
+    for name in sorted(list(inside.entries)):
         entry = inside.entries[name]
         entry.out.pop(house, None)
-        stop_telling(entry, house)
         if entry.parent == house:
             cut_off(inside, name, entry)
-    do_all(inside)
-    for name in names:
-        entry = inside.entries[name]
-        if isinstance(entry, Promise) and house in entry.came:
+        elif isinstance(entry, Promise) and house in entry.came:
             # the house that put the call can't tell any more that an elder one is lost
-            free(inside, name, entry.came.pop(house))
+            free(inside, name, entry.came[house])
     do_all(inside)
 
 

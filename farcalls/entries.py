@@ -68,7 +68,7 @@ class Promise(Entry):
         # while it is open: whether its call is or was here, the names that it was put on here,
         # the houses from which it came, on what, and the promise that it hangs on
         self.way = False
-        self.on = []
+        self.on = {}
         self.came = {}
         self.hang = None
 
@@ -82,7 +82,7 @@ class Promise(Entry):
         other.asked = self.asked
         other.waits = list(self.waits)
         other.way = self.way
-        other.on = list(self.on)
+        other.on = dict(self.on)
         other.came = dict(self.came)
         other.hang = self.hang
         return other

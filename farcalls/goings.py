@@ -25,7 +25,7 @@ def put_call(inside, call, to, word, worths):
     """Puts a call here."""
     entry = inside.know(call)
     entry.way = True
-    entry.on = [to]
+    entry.on[to] = True
     inside.calls[call] = Asking(to, word, worths, stamp_of(inside, call, to))
     inside.later([("target", call, None)])
     do_all(inside)
@@ -35,7 +35,7 @@ def put_when(inside, call, worth, thing, word, worths):
     """Puts a when here, which waits for a worth."""
     entry = inside.know(call)
     entry.way = True
-    entry.on = [thing]
+    entry.on[thing] = True
     inside.calls[call] = Asking(thing, word, worths, None)
     if holds_promise(worth):
         wait(inside, "when", call, worth[1])
@@ -86,7 +86,7 @@ def settle(inside, call, outcome):
         inside.send(house, ("told", call, outcome), names)
     take_off(inside, call, entry)
     waits = entry.waits
-    entry.tells, entry.waits, entry.on, entry.came = [], [], [], {}
+    entry.tells, entry.waits, entry.on, entry.came = [], [], {}, {}
     entry.way, entry.hang = False, None
     if call in inside.outside:
         for name in names:
@@ -207,7 +207,7 @@ def go_on_call(inside, call, outcome):
         asking, entry = inside.calls[call], inside.entries[call]
         asking.to = outcome[1][1]
         asking.stamp = stamp_of(inside, call, asking.to)
-        entry.on.append(asking.to)
+        entry.on[asking.to] = True
         inside.later([("target", call, None)])
     else:
         inside.later([("settle", call, ODD if outcome[0] == "kept" else outcome)])

@@ -100,8 +100,6 @@ class Inside:
         entry = self.entries[name]
         entry.parent = house
         entry.got = 1
-        entry.table = {}
-        return entry
 
     def want(self, name):
         """Asks what an open promise comes to, where that will not be told anyway."""

@@ -82,7 +82,6 @@ def end_round(inside, number):
         if name not in kept:
             empty(inside, name, entry)
         entry.sent = [row for row in entry.sent if row[1] in kept]
-        entry.late = [call for call in entry.late if call in kept]
         if isinstance(entry, Promise):
             entry.waits = [row for row in entry.waits if row[1] in kept]
 
@@ -94,4 +93,3 @@ def empty(inside, name, entry):
     if isinstance(entry, Promise):
         entry.outcome, entry.hang = None, None
         entry.way = False
-        entry.on, entry.tells = [], []

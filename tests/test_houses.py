@@ -479,7 +479,7 @@ class Rows(Far):
         self.share((0, "1#0"), (1, "0#0"))
         call = web.call(0, "1#0", "get")
         first = call
-        for k in range(120):
+        for k in range(190):
             web.call(0, f"{k % 2}#0", "put", to(call))
             call = web.call(0, f"{k % 2}#0", "get")
         web.settle()

@@ -394,6 +394,43 @@ class Sweeps(Far):
         web.round(2)
         self.told(web.all_names(), {0: [], 1: [], 2: ["2#0"]})
 
+    def test_a_when_at_a_house_that_only_asked(self):
+        # both house 0, where the when is, and house 2, which holds the promise, know it by house 1 alone
+        web = self.web
+        maker = web.make(1, "maker")
+        web.call(1, maker, "self")
+        web.settle()
+        got = web.call(1, maker, "mine")
+        self.share((0, got), (2, got))
+        web.call(0, "0#0", "watch", to(got))
+        web.settle()
+        for number in (0, 1):
+            for name in web[number].held():
+                web[number].let_go(name)
+        web.round(1)
+        self.assertLessEqual({"0#0", "0:0.0"}, set(web[0].names()))
+        web[2].let_go(got)
+        web.round(2)
+        self.told(web.all_names(), {0: [], 1: [], 2: ["2#0"]})
+
+    def test_a_round_and_a_fall(self):
+        # of two calls on one thing that hang for ever, the round takes the younger one
+        web = self.web
+        maker = web.make(1, "maker")
+        self.share((0, maker))
+        web.call(0, maker, "self")
+        web.settle()
+        calls = [web.call(0, maker, "mine") for _ in range(2)]
+        web.settle()
+        web[0].let_go(calls[1])
+        web.round(1)
+        self.assertNotIn(calls[1], web[0].names())
+        web.fall(1)
+        web.tell_all()
+        self.told(web[0].settled(calls[0]), ("broken", "lost"))
+        call = web.call(0, maker, "get")
+        self.told(web[0].settled(call), ("broken", "lost"))
+
     def test_a_round_that_is_never_cleared(self):
         web = self.web
         self.share((0, "1#0"))

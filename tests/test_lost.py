@@ -245,7 +245,7 @@ class Lost(Far):
 class Elder(Case):
     """A call on a thing is kept back on its way by house 2, while the thing goes on, and a younger one comes to it."""
 
-    def start(self, *houses, by_promise=False):
+    def start(self, *houses, by_promise=False, by_call=False):
         """The thing `0#0` has the calls to go to 2, 1 and these houses, and came to 1; the elder call is behind it."""
         self.web = web = Web(PLAN, 5)
         thing = web.make(0, "node")
@@ -258,6 +258,10 @@ class Elder(Case):
             web.settle()
         for house in (2, 1) + houses:
             web.call(0, thing, "go", house)
+        if by_call:
+            # the name is the promise of a call that goes along in the line
+            self.name = web.call(1, thing, "self")
+            web.taken(1, 0)
         web.turn(0)
         web.net = [row for row in web.net if row[:2] == (0, 2)]
         self.elder = web.call(1, self.name, "put", 1)
@@ -285,6 +289,20 @@ class Elder(Case):
             self.web.net.extend(self.kept_back)
             self.web.settle()
             self.first(self.elder, younger)
+
+    def test_what_waits_goes_along_there_and_back(self):
+        for by_call in (False, True):
+            self.start(3, 1, 3, by_call=by_call)
+            web = self.web
+            younger = web.call(1, self.name, "put", 2)
+            for one, other in ((1, 3), (3, 1), (1, 3)):
+                web.turn(one)
+                web.taken(one, other)
+                self.told(web[other].things()[0], "0#0")
+            web.net.extend(self.kept_back)
+            web.settle()
+            self.first(self.elder, younger)
+            self.told([web[1].settled(call) for call in (self.elder, younger)], [kept(), kept()])
 
     def test_it_is_lost_and_the_younger_one_goes_on(self):
         for by_promise in (False, True):
@@ -340,6 +358,40 @@ class Elder(Case):
         if self.elder in acts and acts.index(self.elder) > acts.index(younger):
             self.assertIn(LOST, (web[0].settled(self.elder), web[3].settled(younger)))
         self.assertNotEqual(web[0].settled(self.elder), ("open",))
+
+    def test_a_call_that_comes_where_it_is_known_as_lost(self):
+        # it goes from 0 by 1 to 2, and from there after the thing to 0, where house 1 was told as lost meanwhile
+        web = Web(PLAN, 3)
+        thing = web.make(1, "node")
+        web.offer(1, 0, thing)
+        web.settle()
+        web.call(1, thing, "go", 2)
+        web.call(1, thing, "go", 0)
+        call = web.call(0, thing, "put", 1)
+        web.offer(0, 2, call)
+        web.turn(1)
+        letters = [row for row in web.net if row[:2] == (1, 2)]
+        web.net = [row for row in web.net if row[:2] != (1, 2)]
+        web.taken(0, 1)
+        late = [row for row in web.net if row[:2] == (1, 2)]
+        web.net = letters
+        web.take(0)
+        web.turn(2)
+        web.taken(2, 0)
+        self.told(web[0].things(), [thing])
+        web.fall(1)
+        web.lost(0, 1)
+        self.told(web[0].settled(call), LOST)
+        web.net.extend(late)
+        web.offer(0, 2, call)
+        web.settle()
+        web.tell_all()
+        web.settle()
+        self.told(web[0].settled(call), LOST)
+        self.assertNotEqual(web[2].settled(call), ("open",))
+        web.let_all_go()
+        web.sweeps()
+        self.told(web.all_names(), {0: [], 2: []})
 
     def test_a_promise_that_was_settled_at_a_fallen_house(self):
         # the first call went by house 1 and stands in the line here; for the next one the way is lost
