@@ -2,9 +2,7 @@
 
 from farcalls.acting import act
 from farcalls.entries import Asking, Promise
-from farcalls.goings import (
-    LOST, come_to, do_all, forward, free, hold, put_call, put_when, unlike,
-)
+from farcalls.goings import LOST, come_to, do_all, forward, free, hold, put_call, put_when, unlike
 from farcalls.keepings import mark_all
 from farcalls.plans import filled
 from farcalls.worths import holds_in

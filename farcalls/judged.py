@@ -34,8 +34,8 @@ class Run:
     def __init__(self, plan, spared):
         self.plan = plan
         # the calls that may be lost
-        self.spared = spared
-        # the outcomes are those of acts, be they holds of promises; the whens are (thing, worth waited for);
+        self.spared = {call: True for call in spared}
+        # the whens have the worths that they wait for; the outcomes are those of acts, be they holds of promises;
         # the rows are the calls on one name by the same one, in order
         self.stays = {}
         self.puts = {}
@@ -77,7 +77,7 @@ def goes_on(run, row):
         return False
     put = run.puts[call]
     if call in run.whens:
-        target, argses = run.whens[call][0], args_of_when(run, call)
+        target, argses = put.to, args_of_when(run, call)
     else:
         target, argses = target_of(run, put.to), [put.worths]
     if target not in run.stays or not alike(thing, target) or not is_next(run, call):
@@ -128,7 +128,7 @@ def outcome_of(run, promise):
 
 def args_of_when(run, call):
     """The args with which a when may come now: none, or several."""
-    worth = run.whens[call][1]
+    worth = run.whens[call]
     own = run.puts[call].worths
     if not holds_promise(worth):
         return [(1, worth, *own)]
@@ -156,7 +156,7 @@ def acts_so(run, call, thing, row):
     for name, to, word, args, waits in puts:
         if waits:
             run.puts[name] = Put(by, thing, word, args)
-            run.whens[name] = (thing, to)
+            run.whens[name] = to
         else:
             put_call(run, name, Put(by, to, word, args))
     if goes is not None and goes != stay.house:
