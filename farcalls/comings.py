@@ -2,7 +2,7 @@
 
 from farcalls.acting import act
 from farcalls.entries import Asking, Promise
-from farcalls.goings import LOST, come_to, do_all, forward, free, hold, put_call, put_when, unlike
+from farcalls.goings import LOST, PLAIN, VAIN, come_to, do_all, forward, free, hold, home_of, put_call, put_when, unlike
 from farcalls.keepings import mark_all
 from farcalls.plans import filled
 from farcalls.worths import holds_in
@@ -10,8 +10,14 @@ from farcalls.worths import holds_in
 
 def make_thing(inside, name, kind, fields):
     """Has a new thing stand here."""
-    inside.know(name).been = True
+    stay_here(inside, inside.know(name), 1)
     inside.here[name] = (kind, fields)
+
+
+def stay_here(inside, entry, stay):
+    """A thing begins its stay of this number here."""
+    entry.stay = entry.spotted = stay
+    entry.spot = inside.number
 
 
 def make_outside(inside, kind, args):
@@ -59,8 +65,10 @@ def move(inside, thing, house):
     entry = inside.entries[thing]
     table = tuple(sorted(list(entry.table.items())))
     told = tuple(list(fields.items()))
-    inside.send(house, ("thing", thing, kind, told, table), unlike(holds_in(tuple(list(fields.values())))))
+    row = ("thing", thing, kind, told, table, entry.stay + 1)
+    inside.send(house, row, unlike(holds_in(tuple(list(fields.values())))))
     inside.part(thing, house)
+    inside.note(thing, house, entry.stay + 1)
     calls = [call for call in inside.queue if inside.calls[call].to == thing]
     inside.queue = [call for call in inside.queue if inside.calls[call].to != thing]
     late = entry.late
@@ -73,9 +81,10 @@ def take_rows(inside, house, rows):
     """Does what the rows of a letter of another house tell, in order."""
     for row in rows:
         if row[0] == "here":
-            turn_to(inside, house, row[1])
-        for name in row[-1]:
+            turn_to(inside, house, row[1], row[2])
+        for name, spot, stay in row[-1]:
             inside.hear(house, name)
+            inside.note(name, spot, stay)
         if row[0] in TAKES:
             take = TAKES[row[0]]
             take(inside, house, row)
@@ -89,16 +98,16 @@ def take_hold(inside, house, row):
 
 def take_thing(inside, house, row):
     """A thing comes to stand here."""
-    _, thing, kind, fields, table, _ = row
+    _, thing, kind, fields, table, stay, _ = row
     entry = inside.root(thing, house)
-    entry.been = True
+    stay_here(inside, entry, stay)
     entry.table = dict(table)
     inside.here[thing] = (kind, dict(fields))
 
 
 def take_call(inside, house, row):
     """A call comes here, to go to what it was put on."""
-    _, call, to, word, worths, stamp, table, manner, _ = row
+    _, call, to, word, worths, stamp, table, stay, _ = row
     entry = inside.root(call, house)
     if entry.outcome is not None:
         # it was known as lost ahead of this
@@ -110,28 +119,38 @@ def take_call(inside, house, row):
         entry.tells.append(house)
     entry.came[house] = to
     inside.calls[call] = Asking(to, word, worths, stamp)
-    if manner == "direct" and not is_known_here(inside, house, to):
-        forward(inside, call, house, "vain")
+    if stay > PLAIN and not was_here(inside, house, to, stay):
+        forward(inside, call, house, VAIN)
         return
     entry.on[to] = True
-    if manner == "vain":
-        inside.entries[to].vain = True
+    if stay == VAIN:
+        ask_no_more(inside, house, to)
     inside.later([("target", call, None)])
 
 
-def is_known_here(inside, house, thing):
-    """Whether a thing stands, or stood, here; if so, a house that asks comes to know it by this one."""
+def was_here(inside, house, thing, stay):
+    """Whether this stay of a thing, or a later one, was here; if so, a house that asks comes to know it by this one."""
     entry = inside.entries.get(thing)
-    if entry is None or not entry.been:
+    if entry is None or entry.stay < stay or thing not in inside.here and entry.parent is None:
         return False
-    inside.send(house, ("here", thing), [thing])
+    inside.send(house, ("here", thing, entry.stay), [thing])
     return True
 
 
-def turn_to(inside, house, thing):
-    """Has the way to a thing go by a house where it stood: that is nearer than the one which told its name."""
+def ask_no_more(inside, house, thing):
+    """Has no calls go straight to a house any more that knows no such stay of the thing."""
     entry = inside.entries[thing]
-    if not entry.been and entry.parent != house:
+    if entry.spot == house:
+        entry.spot = None
+    if home_of(thing) == house:
+        entry.vain = True
+
+
+def turn_to(inside, house, thing, stay):
+    """Has the way to a thing go by a house where it stood later than here."""
+    # only ever to later stays, so that no way leads back to where it began
+    entry = inside.know(thing)
+    if stay > entry.stay and entry.parent != house:
         inside.give_back(thing)
         entry.parent = house
 
@@ -168,8 +187,8 @@ def take_drop(inside, house, row):
 
 def take_free(inside, house, row):
     """A call need not wait any more for its elder one."""
-    _, call, to, _ = row
-    free(inside, call, to)
+    _, call, to, elder, _ = row
+    free(inside, call, to, elder)
 
 
 def take_mark(inside, house, row):
@@ -195,7 +214,7 @@ def lose(inside, house):
             cut_off(inside, name, entry)
         elif isinstance(entry, Promise) and house in entry.came:
             # the house that put the call can't tell any more that an elder one is lost
-            free(inside, name, entry.came[house])
+            free(inside, name, entry.came[house], None)
     do_all(inside)
 
 

@@ -39,15 +39,21 @@ class Place(Entry):
 
     def __init__(self):
         Entry.__init__(self)
-        # whether the thing ever stood here, and whether the house where it was made was asked for it in vain
-        self.been = False
+        # the number of its last stay here: the first one is where it was made, 0 where it never stood here
+        self.stay = 0
+        # the last stay that is known here: its house, None where that isn't told or was asked in vain; and its number
+        self.spot = None
+        self.spotted = 0
+        # whether the house where it was made was asked for it in vain
         self.vain = False
 
     def twin(self):
         """One that goes on alike, for itself."""
         other = Place()
         self.copy_to(other)
-        other.been = self.been
+        other.stay = self.stay
+        other.spot = self.spot
+        other.spotted = self.spotted
         other.vain = self.vain
         return other
 

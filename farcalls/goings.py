@@ -5,6 +5,9 @@ from farcalls.worths import holds_in, holds_promise, is_hold, names_thing
 
 LOST = ("broken", "lost")
 ODD = ("broken", "odd")
+# in the place of a stay's number: the call goes by the way to its root, or comes back since the thing never was there
+PLAIN = 0
+VAIN = -1
 
 
 def do_all(inside):
@@ -103,19 +106,22 @@ def take_off(inside, call, entry):
             at = calls.index(call)
             del sent[at]
             if entry.outcome == LOST and at < len(sent):
-                free(inside, sent[at][1], name)
+                free(inside, sent[at][1], name, sent[at - 1][0] if at > 0 else None)
 
 
-def free(inside, call, to):
-    """Has a call on a name wait for no elder one any more, wherever it is."""
+def free(inside, call, to, elder):
+    """Has a call on a name wait for no younger call than this elder one (None: for none), wherever it is."""
     asking = inside.calls.get(call)
     if asking is None:
         parent = inside.entries[call].parent
         if parent is not None:
-            inside.send(parent, ("free", call, to), [])
+            inside.send(parent, ("free", call, to, elder), [])
     elif asking.to == to and asking.stamp is not None:
-        house, number, _ = asking.stamp
-        asking.stamp = (house, number, None)
+        house, number, known = asking.stamp
+        if known is None or elder is not None and elder >= known:
+            # what is told here last may have been told there first
+            return
+        asking.stamp = (house, number, elder)
         late = inside.entries[to].late
         if call in late:
             late.remove(call)
@@ -143,12 +149,14 @@ def target(inside, call, _):
     entry = inside.entries.get(name)
     if is_root(inside, name, entry):
         let_in(inside, call, asking, entry)
-    elif may_ask_home(inside, name, entry):
-        forward(inside, call, home_of(name), "direct")
+        return
+    house, stay = straight_to(inside, name, entry)
+    if house is not None:
+        forward(inside, call, house, stay)
     elif entry.parent is None:
         inside.later([("settle", call, LOST)])
     else:
-        forward(inside, call, entry.parent, "plain")
+        forward(inside, call, entry.parent, PLAIN)
 
 
 def is_root(inside, name, entry):
@@ -164,12 +172,19 @@ def home_of(name):
     return int(head) if len(head) == 1 else None
 
 
-def may_ask_home(inside, name, entry):
-    """Whether a call may go straight to where a thing was made, past those from which the name came here."""
-    if not names_thing(name) or entry.been or entry.vain:
-        return False
-    home = home_of(name)
-    return home is not None and home != inside.number and home != entry.parent and home not in inside.gone
+def straight_to(inside, name, entry):
+    """The house to which a call goes straight, past those from which the name came here, and the thing's stay there."""
+    if not names_thing(name):
+        return (None, PLAIN)
+    spots = [(entry.spot, entry.spotted)]
+    if entry.stay == 0 and not entry.vain:
+        spots.append((home_of(name), 1))
+    for house, stay in [spot for spot in spots if spot[0] is not None]:
+        if house == entry.parent:
+            break
+        if house != inside.number and inside.may_write_to(house):
+            return (house, stay)
+    return (None, PLAIN)
 
 
 def let_in(inside, call, asking, entry):
@@ -220,12 +235,12 @@ def go_on_when(inside, call, outcome):
     inside.later([("target", call, None)])
 
 
-def forward(inside, call, house, manner):
-    """Sends a call to another house, and behind it the calls that wait for it."""
+def forward(inside, call, house, stay):
+    """Sends a call to another house, where its thing was by this stay, and behind it the calls that wait for it."""
     asking = inside.calls.pop(call)
     entry = inside.entries[call]
     table = tuple(sorted(list(entry.table.items())))
-    row = ("call", call, asking.to, asking.word, asking.worths, asking.stamp, table, manner)
+    row = ("call", call, asking.to, asking.word, asking.worths, asking.stamp, table, stay)
     inside.send(house, row, unlike(holds_in(asking.worths)))
     inside.part(call, house)
     entry.asked = True

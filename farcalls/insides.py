@@ -25,6 +25,8 @@ class Inside:
         self.gone = {}
         self.fresh = {}
         self.wires = {}
+        # the houses whose numbers stand in names that came here
+        self.named = {}
         # the last round marked, and whether it can be cleared
         self.marked = 0
         self.clearing = False
@@ -41,6 +43,7 @@ class Inside:
         other.queue = list(self.queue)
         other.outside, other.gone, other.fresh = dict(self.outside), dict(self.gone), dict(self.fresh)
         other.wires = {house: wire.copy() for house, wire in self.wires.items()}
+        other.named = dict(self.named)
         other.marked, other.clearing = self.marked, self.clearing
         return other
 
@@ -61,14 +64,32 @@ class Inside:
         for name in names:
             out = self.entries[name].out
             out[house] = out.get(house, 0) + 1
-        self.wire(house).put((*row, tuple(names)))
+        self.wire(house).put((*row, tuple([self.hint(name) for name in names])))
         self.fresh[house] = True
 
     def know(self, name):
         """The entry of a name, a new one where there is none."""
         if name not in self.entries:
             self.entries[name] = Place() if names_thing(name) else Promise()
+            self.named[int(name[0])] = True
         return self.entries[name]
+
+    def may_write_to(self, house):
+        """Whether letters may go to a house: it is up, and known by its letters, or by names, offers or moves."""
+        return house not in self.gone and (house in self.wires or house in self.named)
+
+    def hint(self, name):
+        """A name, and where the thing stood last, as far as that is known here, and the number of that stay."""
+        entry = self.entries[name]
+        if not isinstance(entry, Place) or entry.spot is None or entry.spot in self.gone:
+            return (name, None, 0)
+        return (name, entry.spot, entry.spotted)
+
+    def note(self, name, house, stay):
+        """Has heard where a thing stood."""
+        entry = self.entries[name]
+        if isinstance(entry, Place) and stay > entry.spotted and house != self.number:
+            entry.spot, entry.spotted = house, stay
 
     def hear(self, house, name):
         """Has heard a name from a house."""

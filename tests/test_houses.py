@@ -452,6 +452,60 @@ class Rows(Far):
         web.taken(1, 2)
         self.told(web[2].line(), [two])
 
+    def straight(self, name):
+        """House 0, which alone told house 1 of a thing at house 2, puts a row of calls, of which nothing comes back."""
+        web = self.web
+        web.call(0, "1#0", "put", to(name))
+        web.settle()
+        one = web.call(0, "1#0", "get")
+        two = web.call(0, one, "self")
+        three = web.call(0, two, "put", 8)
+        web.taken(0, 1)
+        web.turn(1)
+        web.net = [row for row in web.net if row[1] != 0]
+        web.taken(1, 2)
+        self.told([web.turn(2)[0], web.turn(2)[0]], [two, three])
+        self.told(web[2].stands(name)[1]["one"], 8)
+        web.settle()
+        self.told_there(0, three, "kept", None)
+
+    def test_a_thing_made_by_an_act(self):
+        maker = self.web.make(2, "maker")
+        self.share((0, maker), (0, "1#0"), (1, "2#0"))
+        made = self.web.call(0, maker, "put", 5)
+        self.web.settle()
+        self.straight(f"{made}#0")
+
+    def test_a_thing_that_moved(self):
+        self.share((0, "1#0"), (1, "2#0"))
+        self.web.call(0, "0#0", "go", 2)
+        self.web.settle()
+        self.straight("0#0")
+
+    def test_a_thing_that_came_back_and_went_on(self):
+        self.share((0, "1#0"), (1, "2#0"))
+        for house in (1, 2, 1, 0, 2):
+            self.web.call(0, "0#0", "go", house)
+            self.web.settle()
+        self.straight("0#0")
+
+    def test_a_thing_at_a_house_that_is_not_known(self):
+        # house 1 was told of house 2 by no name, and writes to it no letter: the thing's calls go by house 0
+        web = self.web
+        maker = web.make(2, "maker")
+        self.share((0, maker), (0, "1#0"))
+        made = web.call(0, maker, "put", 5)
+        web.settle()
+        web.call(0, "1#0", "put", to(f"{made}#0"))
+        one = web.call(0, "1#0", "get")
+        two = web.call(0, one, "get")
+        web.taken(0, 1)
+        while web[1].line():
+            web.turn(1)
+        self.assertNotIn((1, 2), [row[:2] for row in web.net])
+        web.settle()
+        self.told_there(0, two, "kept", 5)
+
     def test_long_rows(self):
         web = self.web
         self.share((0, "1#0"))

@@ -1,8 +1,12 @@
 """Lost houses: points 20 to 22, and of point 24 what is kept through falls."""
 
+import random
 import unittest
 
+from farcalls.entries import Asking
+from farcalls.goings import free
 from farcalls.houses import House
+from farcalls.insides import Inside
 from helpers import Case
 from test_houses import Far, kept, to
 from web import LOST, PLAN, Web
@@ -273,6 +277,13 @@ class Elder(Case):
         web.taken(2, 1)
         self.told(web[1].things()[0], thing)
 
+    def comes(self, sender, house):
+        """Turns and letters, none again; those from one house to another one are lost."""
+        web, draw, going = self.web, random.Random(0), True
+        while going:
+            web.net = [row for row in web.net if row[:2] != (sender, house)]
+            going = web.step(draw)
+
     def first(self, *calls):
         """These acted, in this order."""
         acts = [row[0] for row in self.web.rows() if row[0] in calls]
@@ -393,6 +404,33 @@ class Elder(Case):
         web.sweeps()
         self.told(web.all_names(), {0: [], 2: []})
 
+    def test_a_lost_one_between_two_that_are_not(self):
+        # three calls of house 1 go to where the thing stood when they were put; of these house 2, with the second, falls
+        self.web = web = Web(PLAN, 4)
+        thing = web.make(0, "node")
+        for house in (1, 2, 3):
+            web.offer(0, house, thing)
+        web.settle()
+        calls = [web.call(1, thing, "put", 1)]
+        for number, house in ((0, 2), (2, 3)):
+            web.call(number, thing, "go", house)
+            self.comes(1, 0)
+            for other in (0, 1):
+                web.offer(house, other, thing)
+            self.comes(1, 0)
+            calls.append(web.call(1, thing, "put", house))
+            if house == 2:
+                web.net = []
+        self.told([row[:2] for row in web.net], [(1, 3)])
+        self.comes(1, 0)
+        web.fall(2)
+        web.tell_all()
+        self.comes(1, 0)
+        self.told([web[1].settled(call) for call in calls], [("open",), LOST, ("open",)])
+        web.settle()
+        self.told([web[1].settled(call) for call in calls], [kept(), LOST, kept()])
+        self.first(calls[0], calls[2])
+
     def test_a_promise_that_was_settled_at_a_fallen_house(self):
         # the first call went by house 1 and stands in the line here; for the next one the way is lost
         web = Web(PLAN, 3)
@@ -414,6 +452,21 @@ class Elder(Case):
         web.settle()
         self.assertNotEqual(web[0].settled(second), ("open",))
         self.assertNotEqual(web[0].settled(first), ("open",))
+
+
+class Freed(Case):
+    def test_what_was_told_first_may_come_last(self):
+        # the number up to which a younger call waits only ever sinks: it was told so by way of several houses
+        inside = Inside(PLAN, 0)
+        inside.know("1#0")
+        inside.know("1:0")
+        for told, elders in (((5, 7, None, 2), (5, 5, None, None)), ((None, 8), (None, None)), ((9, 8, 3), (9, 8, 3))):
+            inside.calls["1:0"] = Asking("1#0", "get", (), (1, 9, 9))
+            for elder, wanted in zip(told, elders):
+                free(inside, "1:0", "1#0", elder)
+                self.told(inside.calls["1:0"].stamp, (1, 9, wanted))
+        free(inside, "1:0", "1#1", None)
+        self.told(inside.calls["1:0"].stamp, (1, 9, 3))
 
 
 class Kept(Far):

@@ -327,6 +327,100 @@ class Homes(Far):
             self.told(web[number].settled(call), kept(to("0#0")))
             self.told(web.acts[-1][0], 1)
 
+    def test_a_house_that_was_told_as_the_place_and_forgot_it(self):
+        # house 0 was told by 1 that the thing stands at 2, from where it went to 1 since
+        web = self.web
+        self.share((1, "2#0"))
+        web.offer(1, 0, "2#0")
+        web.settle()
+        web.call(1, "2#0", "go", 1)
+        web.settle()
+        web[2].let_go("2#0")
+        web[1].let_go("1:0")
+        web.sweeps()
+        self.told(web[2].names(), [])
+        calls = [web.call(0, "2#0", "put", 1), web.call(0, "2#0", "put", 2)]
+        web.settle()
+        calls.append(web.call(0, "2#0", "get"))
+        web.settle()
+        self.told([web[0].settled(call) for call in calls], [kept(), kept(), kept(2)])
+        self.told([row[:2] for _, row in web.acts[-3:]], [(call, "2#0") for call in calls])
+        web.let_all_go()
+        web.sweeps()
+        self.told(web.all_names(), {0: [], 1: [], 2: []})
+
+    def test_a_thing_on_its_way_back(self):
+        # house 0 was told by 2 that the thing went back to 1, where it is yet to come
+        web = self.web
+        self.share((2, "1#0"))
+        web.call(1, "1#0", "go", 2)
+        web.settle()
+        web.call(2, "1#0", "go", 1)
+        web.turn(2)
+        web.net = []
+        web.offer(2, 0, "1#0")
+        web.taken(2, 0)
+        call = web.call(0, "1#0", "self")
+        web.taken(0, 1)
+        self.told(web[1].line(), [])
+        web.settle()
+        self.told(web[0].settled(call), kept(to("1#0")))
+        self.told(web.acts[-1][0], 1)
+
+    def test_a_thing_that_came_ahead_of_the_answer(self):
+        # house 0, which knew the thing by 2 alone, asked 1 for it; the thing comes by 2 ahead of what 1 tells
+        web = self.web
+        self.share((2, "1#0"))
+        web.offer(2, 0, "1#0")
+        web.settle()
+        call = web.call(0, "1#0", "put", 7)
+        web.taken(0, 1)
+        late = [row for row in web.net if row[:2] == (1, 0)]
+        web.call(1, "1#0", "go", 2)
+        web.call(1, "1#0", "go", 0)
+        web.turn(1)
+        web.turn(1)
+        web.taken(1, 2)
+        web.turn(2)
+        web.net = [row for row in web.net if row[1] != 0 or row[0] == 2]
+        web.taken(2, 0)
+        self.told(web[0].things(), ["0#0", "1#0"])
+        web.net.extend(late)
+        web.settle()
+        self.told(web[0].settled(call), kept())
+        for number in range(3):
+            got = web.call(number, "1#0", "get")
+            web.settle()
+            self.told(web[number].settled(got), kept(7))
+            self.told(web.acts[-1][0], 0)
+        web.let_all_go()
+        web.sweeps()
+        self.told(web.all_names(), {0: [], 1: [], 2: []})
+
+    def test_a_place_that_is_not_known_and_the_house_where_it_was_made(self):
+        # house 3 knows of the thing by 0, of house 2 by the thing's name, of house 1, where it stands, by nothing
+        web = Web(PLAN, 4)
+        thing, node = web.make(2, "node"), web.make(3, "node")
+        web.offer(2, 1, thing)
+        web.offer(3, 0, node)
+        web.settle()
+        web.call(1, thing, "go", 1)
+        web.settle()
+        web.offer(1, 0, thing)
+        web.settle()
+        web.call(0, node, "put", to(thing))
+        web.settle()
+        one = web.call(0, node, "get")
+        two = web.call(0, one, "put", 8)
+        web.taken(0, 3)
+        web.turn(3)
+        web.net = [row for row in web.net if row[1] != 0]
+        web.taken(3, 2)
+        web.taken(2, 1)
+        self.told(web[1].line(), [two])
+        web.settle()
+        self.told(web[0].settled(two), kept())
+
     def test_a_house_that_fell(self):
         # 0 knows the thing, which stands at 1, by 1; house 2, where it was made, has fallen
         web = self.web
