@@ -60,7 +60,8 @@ def stamp_of(inside, call, to):
 def come_to(inside, call, outcome):
     """Settles the promise of a call that acted here, or lets it hang."""
     if outcome[0] == "kept" and holds_promise(outcome[1]):
-        inside.entries[call].hang = outcome[1][1]
+        entry = inside.entries[call]
+        entry.hang = outcome[1][1]
         wait(inside, "hang", call, outcome[1][1])
     else:
         inside.later([("settle", call, outcome)])

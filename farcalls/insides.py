@@ -94,7 +94,8 @@ class Inside:
     def hear(self, house, name):
         """Has heard a name from a house."""
         if name not in self.entries:
-            self.know(name).parent = house
+            new = self.know(name)
+            new.parent = house
         entry = self.entries[name]
         if entry.parent == house:
             entry.got += 1

@@ -109,6 +109,17 @@ class Rules(unittest.TestCase):
         self.assertEqual(methods & attributes, set())
         self.assertEqual(attributes & BARRED, set())
 
+    def test_attributes_are_given_through_local_names(self):
+        for name, text in texts():
+            tree = ast.parse(text)
+            top = {part.id for row in tree.body if isinstance(row, ast.Assign) for part in row.targets}
+            top.update(row.name for row in tree.body if isinstance(row, (ast.ClassDef, ast.FunctionDef)))
+            for node in ast.walk(tree):
+                if isinstance(node, ast.Attribute) and isinstance(node.ctx, (ast.Store, ast.Del)):
+                    with self.subTest(f"{name} {node.lineno}"):
+                        self.assertIsInstance(node.value, ast.Name)
+                        self.assertNotIn(node.value.id, top)
+
     def test_imports(self):
         for name, text in texts():
             for node in ast.walk(ast.parse(text)):
