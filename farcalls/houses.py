@@ -154,6 +154,10 @@ class House:
         """All names of which anything is kept, rising."""
         return sorted(list(self._inside.entries))
 
+    def is_heard(self):
+        """Whether all that was put to other houses is known to be heard there."""
+        return all([len(wire) == 0 for wire in self._inside.wires.values()])
+
     def view(self):
         """All that was told and not refused, and what was told of it, in order."""
         return list(self._view)

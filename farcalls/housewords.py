@@ -12,6 +12,7 @@ def house_text(plan, number, view):
 
 def show(thing):
     """The text of what can stand in a view, one for each, kind for kind."""
+    # what each begins with is told by its first sign, and where it ends by itself: nothing need stand between two
     if isinstance(thing, tuple):
         parts = "".join([show(part) for part in thing])
         return f"<{parts}>"
@@ -19,7 +20,7 @@ def show(thing):
         return f"{len(thing)}'{thing}"
     if isinstance(thing, bool):
         return "t" if thing else "f"
-    return "-" if thing is None else f"{thing};"
+    return "n" if thing is None else f"{thing};"
 
 
 def check_of(body):

@@ -2,7 +2,7 @@
 
 from farcalls.deeds import DEEP_X, MOST_AT, MOST_WHEN
 from farcalls.plans import MOST_FIELDS, MOST_PARAMS, are_unlike
-from farcalls.worths import MOST_DEEP, MOST_PARTS, is_count, is_house, is_word
+from farcalls.worths import MOST_DEEP, MOST_PARTS, is_count, is_house, is_name, is_word
 
 MOST_FIGURES = 9
 ENDS = ("else", "end")
@@ -67,15 +67,17 @@ def a_number(text):
     return int(text)
 
 
-def a_worth(words, deep=MOST_DEEP):
-    """Reads a worth without holds, tuples at most so deep within one another."""
+def a_worth(words, deep=MOST_DEEP, *, holds=False):
+    """Reads a worth, with holds or without, tuples at most so deep within one another."""
     word = words.one()
     if word == "-":
         return None
     if word == "<":
         if deep == 0:
             raise NotRow()
-        return a_tuple(words, deep - 1)
+        return a_tuple(words, deep - 1, holds)
+    if holds and word.startswith("@"):
+        return a_hold(word)
     if word.startswith("'"):
         if not is_word(word[1:]):
             raise NotRow()
@@ -87,11 +89,18 @@ def a_worth(words, deep=MOST_DEEP):
     return -a_number(word[1:])
 
 
-def a_tuple(words, deep):
-    """Reads the parts of a tuple, and its end."""
+def a_hold(word):
+    """The hold of a word that begins with `@`."""
+    if not is_name(word[1:]):
+        raise NotRow()
+    return ("to", word[1:])
+
+
+def a_tuple(words, deep, holds):
+    """Reads the parts of a tuple, with holds or without, and its end."""
     parts = []
     while words.ahead() != ">":
-        parts.append(a_worth(words, deep))
+        parts.append(a_worth(words, deep, holds=holds))
     words.one()
     if len(parts) > MOST_PARTS:
         raise NotRow()

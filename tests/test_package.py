@@ -1,4 +1,4 @@
-"""The interface, as far as it is built, and the rules of the language that a test can see at once."""
+"""The interface, and the rules of the language that a test can see at once."""
 
 import ast
 import builtins
@@ -14,6 +14,8 @@ FUNCTIONS = {
     "acting": {"act": "(plan, kind, fields, call, *, me, word, args=())"},
     "plantexts": {"show_worth": "(worth)", "show_plan": "(plan)", "read_plan": "(text)"},
     "judged": {"first_odd": "(plan, outer, acts, *, lost=())"},
+    "housetexts": {"read_house": "(text)"},
+    "views": {"first_wrong": "(plan, number, view)", "again_of": "(plan, number, view)"},
 }
 CLASSES = {
     "near": {"Near": {
@@ -30,6 +32,16 @@ CLASSES = {
         "clear": "(self, number)", "settled": "(self, name)", "stands": "(self, name)", "things": "(self)",
         "line": "(self)", "held": "(self)", "names": "(self)", "view": "(self)", "copy": "(self)",
         "__eq__": "(self, other)", "__len__": "(self)", "__str__": "(self)"}},
+    "worlds": {"World": {
+        "__init__": "(self, plan, *, many=3)", "__eq__": "(self, other)", "make": "(self, house, kind, *, args=())",
+        "call": "(self, house, to, word, *, args=())", "offer": "(self, house, other, name)",
+        "let_go": "(self, house, name)", "sweep": "(self, house)", "mark": "(self, house, number)",
+        "clear": "(self, house, number)", "do": "(self, way)", "ways": "(self)", "step": "(self, number)",
+        "go": "(self, *, most=2000)", "settled": "(self, house, name)", "stands": "(self, house, name)",
+        "things": "(self, house)", "names": "(self, house)", "held": "(self, house)", "line": "(self, house)",
+        "up": "(self)", "net": "(self)", "outer": "(self)", "acts": "(self)", "is_still": "(self)",
+        "house_at": "(self, number)", "copy": "(self)"}},
+    "desk": {"Desk": {"__init__": "(self)", "say": "(self, row)"}},
 }
 # names that the language bars for attributes, and words that it bars everywhere
 BARRED = {"items", "keys", "values", "pop", "update", "append", "clear", "extend", "insert", "remove", "reverse", "setdefault",
@@ -66,6 +78,12 @@ class Interface(unittest.TestCase):
                     with self.subTest(method):
                         self.assertIn(method, vars(getattr(module, name)))
                         self.assertEqual(str(inspect.signature(vars(getattr(module, name))[method])), wanted)
+
+
+def imported():
+    """Of each file of the package the files from which it imports."""
+    return {name[:-3]: [node.module.removeprefix("farcalls.") for node in ast.walk(ast.parse(text))
+                        if isinstance(node, ast.ImportFrom)] for name, text in texts()}
 
 
 class Rules(unittest.TestCase):
@@ -128,6 +146,27 @@ class Rules(unittest.TestCase):
                     if isinstance(node, ast.ImportFrom):
                         self.assertEqual(node.level, 0)
                         self.assertTrue(node.module in LIBRARY or node.module.startswith("farcalls."))
+
+    def test_no_two_files_import_from_each_other(self):
+        files = imported()
+        for name in files:
+            due, seen = list(files[name]), set()
+            while due:
+                other = due.pop()
+                if other not in seen:
+                    seen.add(other)
+                    due.extend(files.get(other, []))
+            self.assertNotIn(name, seen)
+
+    def test_names_are_imported_from_the_files_that_define_them(self):
+        trees = {name[:-3]: ast.parse(text) for name, text in texts()}
+        for name, tree in trees.items():
+            for node in tree.body:
+                if isinstance(node, ast.ImportFrom) and node.module not in LIBRARY:
+                    there = trees[node.module.removeprefix("farcalls.")].body
+                    defined = {row.name for row in there if isinstance(row, (ast.ClassDef, ast.FunctionDef))}
+                    defined.update(part.id for row in there if isinstance(row, ast.Assign) for part in row.targets)
+                    self.assertLessEqual({alias.name for alias in node.names}, defined, name)
 
 
 if __name__ == "__main__":
