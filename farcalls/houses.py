@@ -154,6 +154,10 @@ class House:
         """All names of which anything is kept, rising."""
         return sorted(list(self._inside.entries))
 
+    def told_last(self):
+        """What was told of the last deed."""
+        return self._view[-1][2]
+
     def is_heard(self):
         """Whether all that was put to other houses is known to be heard there."""
         return all([len(wire) == 0 for wire in self._inside.wires.values()])

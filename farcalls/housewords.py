@@ -1,12 +1,13 @@
-"""A house's text, point 29: all that it was told, so that another house could be told the same."""
+"""A house's text, point 29: its plan, its number, and all that it was told."""
 
 from farcalls.plantexts import show_plan
 
 
 def house_text(plan, number, view):
-    """The text of a house: its plan, its number and its view."""
-    entries = [show(entry) for entry in view]
-    body = "\n".join([f"house {number}", show_plan(plan), *entries])
+    """The text of a house with this view."""
+    # what a house told hangs on what it was told alone, so that it need not stand there
+    deeds = [show((word, things)) for word, things, _ in view]
+    body = "\n".join([f"house {number}", show_plan(plan), *deeds])
     return f"{body}\n{check_of(body)}"
 
 
@@ -25,7 +26,5 @@ def show(thing):
 
 def check_of(body):
     """A row that is another one for each text in which one sign is put in, left out or another one."""
-    total = 0
-    for sign in body:
-        total += ord(sign)
+    total = sum([ord(sign) for sign in body])
     return f"check {len(body)} {total}"

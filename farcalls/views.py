@@ -25,89 +25,85 @@ def redone(plan, number, view):
     if not isinstance(view, list):
         return (house, 0)
     for at, entry in enumerate(view):
-        if not is_entry(entry) or not comes_so(house, entry):
+        if not isinstance(entry, tuple) or len(entry) != 3:
+            return (house, at)
+        word, things, told = entry
+        if not does(house, word, things) or not alike(told, house.told_last()):
             return (house, at)
     return (house, None)
 
 
-def is_entry(thing):
-    """Whether it has the form of an entry: a deed's word, as many things as that takes, and what was told."""
-    if not isinstance(thing, tuple) or len(thing) != 3:
+def does(house, word, things):
+    """Has a house do a deed; whether it is one that takes these things, and isn't refused."""
+    if not isinstance(word, str) or word not in MANY or not isinstance(things, tuple) or len(things) != MANY[word]:
         return False
-    word, things, _ = thing
-    return isinstance(word, str) and word in MANY and isinstance(things, tuple) and len(things) == MANY[word]
-
-
-def comes_so(house, entry):
-    """Has a house do the deed of an entry; whether it isn't refused, and tells what the entry has."""
-    word, things, told = entry
     do = DOES[word]
     try:
-        came = do(house, *things)
+        do(house, *things)
     except (BadArgs, NoHouse, NoLetter, NoRound, KeyError):
         # a name, or a kind, that isn't there; also one in a letter that was never posted so to this house
         return False
-    return alike(told, came)
+    return True
 
 
 def do_make(house, kind, args):
     """Does a make."""
-    return house.make(kind, args=args)
+    house.make(kind, args=args)
 
 
 def do_call(house, to, word, args):
     """Does a call."""
-    return house.call(to, word, args=args)
+    house.call(to, word, args=args)
 
 
 def do_offer(house, other, name):
     """Does an offer."""
-    return house.offer(other, name)
+    house.offer(other, name)
 
 
 def do_let_go(house, name):
     """Does a let_go."""
-    return house.let_go(name)
+    house.let_go(name)
 
 
 def do_turn(house):
     """Does a turn."""
-    return house.turn()
+    house.turn()
 
 
 def do_take(house, other, letter):
     """Does a take."""
-    return house.take(other, letter)
+    house.take(other, letter)
 
 
 def do_post(house):
-    """Does a post; a view has tuples for lists."""
-    return tuple(house.post())
+    """Does a post."""
+    house.post()
 
 
 def do_again(house):
-    """Does an again; a view has tuples for lists."""
-    return tuple(house.again())
+    """Does an again."""
+    house.again()
 
 
 def do_lost(house, other):
     """Does a lost."""
-    return house.lost(other)
+    house.lost(other)
 
 
 def do_sweep(house):
     """Does a sweep."""
-    return house.sweep()
+    house.sweep()
 
 
 def do_mark(house, number):
     """Does a mark."""
-    return house.mark(number)
+    house.mark(number)
 
 
 def do_clear(house, number):
     """Does a clear."""
-    return house.clear(number)
+    house.clear(number)
 
 
 # of each deed how many things it takes, and the function that does it

@@ -92,16 +92,18 @@ class Texts(Far):
 
     def test_texts_with_a_right_end_that_are_no_house_s(self):
         head = f"house 0\n{show_plan(SMALL)}"
-        bodies = [head + "\n<", head + "\n>", head + "\n<>", head + "\n<4'turn<>n", head + "\n<4'turn<>n>>", head + "\n5;",
-                  head + "\n<4'turn<>n>\n", head + "\n\n<4'turn<>n>", head + "<4'turn<>n>", head + "\n<4'turn<>0;>",
-                  head + "\n<04'turn<>n>", head + "\n<-4'turn<>n>", head + "\n<9999'turn<>n>", head + "\n<4'turn<>" + "9" * 5000 + ";>",
-                  head + "\n<4'turn", head + "\n<4'turn<>n><4'turn<>n>", head + "\n" + "<" * 2000, head + "\n<4;turn<>n>",
-                  head + "\n<4'turn<>x>", head + "\n<4'turn<>--5;>", head + "\n<4'jump<>n>", "0" + head[7:], "house 6" + head[7:],
-                  "house 00" + head[7:], "house 0", "house 0\n", "", "\n", "house 0\nkind A", "house 0\nkind a\ngive 1"]
+        bodies = [head + "\n<", head + "\n>", head + "\n<>", head + "\n<4'turn<>", head + "\n<4'turn<>>>", head + "\n5;",
+                  head + "\n<4'turn<>>\n", head + "\n\n<4'turn<>>", head + "<4'turn<>>", head + "\n<4'turn<>n>", head + "\n<4'turn>",
+                  head + "\n<04'turn<>>", head + "\n<-4'turn<>>", head + "\n<9999'turn<>>", head + "\n<4'turn<" + "9" * 5000 + ";>>",
+                  head + "\n<4'turn", head + "\n<4'turn<>><4'turn<>>", head + "\n" + "<" * 2000, head + "\n<4;turn<>>",
+                  head + "\n<4'turn<x>>", head + "\n<4'turn<--5;>>", head + "\n<4'jump<>>", head + "\n<4'lost<0;>>", head + "\n<4'lost<n>>",
+                  head + "\n<4'lost<1;1;>>", head + "\n<4'lost1;>", head + "\n<<>4'turn>", head + "\n<4'lost<01;>>",
+                  "0" + head[7:], "house 6" + head[7:], "house 00" + head[7:], "house 0", "house 0\n", "", "\n",
+                  "house 0\nkind A", "house 0\nkind a\ngive 1"]
         for body in bodies:
             total = sum(ord(sign) for sign in body)
             self.refused(BadText, {"row": 0}, read_house, f"{body}\ncheck {len(body)} {total}")
-        body = head + "\n<4'turn<>n>"
+        body = head + "\n<4'turn<>>"
         house = read_house(f"{body}\ncheck {len(body)} {sum(ord(sign) for sign in body)}")
         self.told(house.view(), [("turn", (), None)])
 
