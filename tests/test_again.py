@@ -98,6 +98,7 @@ class Texts(Far):
                   head + "\n<4'turn", head + "\n<4'turn<>><4'turn<>>", head + "\n" + "<" * 2000, head + "\n<4;turn<>>",
                   head + "\n<4'turn<x>>", head + "\n<4'turn<--5;>>", head + "\n<4'jump<>>", head + "\n<4'lost<0;>>", head + "\n<4'lost<n>>",
                   head + "\n<4'lost<1;1;>>", head + "\n<4'lost1;>", head + "\n<<>4'turn>", head + "\n<4'lost<01;>>",
+                  head + "\n<4'turn<>>5;", head + "\n<4'turn<>>n", head + "\n<4'turn<>>12", head + "\n<4'turn<>>2'ab", head + "\n<4'turn<>><",
                   "0" + head[7:], "house 6" + head[7:], "house 00" + head[7:], "house 0", "house 0\n", "", "\n",
                   "house 0\nkind A", "house 0\nkind a\ngive 1"]
         for body in bodies:

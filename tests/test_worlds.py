@@ -180,19 +180,56 @@ class Deeds(Worlds):
             self.keeps(self.refused, NoName, {"name": thing}, world.stands, 1, thing)
         self.refused(NoName, {"name": "1#0"}, world.stands, 0, "1#0")
 
+    def posts(self, number, do, *things, letters=1):
+        """What a deed of a house has it tell goes on the net at once."""
+        ahead = self.world.net()
+        do(*things)
+        self.told(self.world.house_at(number).post(), [])
+        self.told([row for row in self.world.net() if row in ahead], [row for row in ahead if row in self.world.net()])
+        self.told(len([row for row in self.world.net() if row not in ahead]), letters)
+
     def test_each_deed_is_followed_by_post(self):
         world = self.world
         self.share((0, "1#0"), (1, "2#0"))
-        for do in (lambda: world.call(0, "1#0", "ask", args=(to("0#0"),)), lambda: world.offer(0, 2, "0#0"),
-                   lambda: world.let_go(0, "1#0")):
-            do()
-            self.told(world.house_at(0).post(), [])
-        self.assertGreater(len(world.net()), 0)
-        while world.ways():
-            way = world.step(0)
-            house = way[1] if way[0] == "turn" else None
-            for number in world.up() if house is None else [house]:
-                self.told(world.house_at(number).post(), [])
+        self.posts(0, world.make, 0, "node", letters=0)
+        self.posts(0, world.call, 0, "1#0", "get")
+        self.posts(0, world.offer, 0, 2, "0#0")
+        self.posts(0, world.mark, 0, 1)
+        self.posts(0, world.let_go, 0, "1#0", letters=0)
+        world.go()
+        world.let_go(0, "0:0")
+        self.posts(0, world.sweep, 0)
+        self.posts(0, world.clear, 0, 1, letters=0)
+        world.go()
+        call = world.call(0, "0#0", "go", args=(1,))
+        self.posts(0, world.do, ("turn", 0))
+        self.posts(0, world.do, ("again", 0))
+        self.posts(1, world.do, ("take", world.net()[0][0]))
+        world.go()
+        self.told((world.settled(0, call), world.things(1)), (kept(to("0#0")), ["0#0", "1#0"]))
+
+    def test_what_is_told_of_a_fall_is_posted(self):
+        # a call of house 2 that went by way of house 0 to house 1, where it may wait for one that never comes
+        world = self.world
+        self.share((0, "1#0"))
+        world.call(0, "1#0", "get")
+        world.offer(0, 2, "0:0")
+        self.bring(0, 2)
+        world.call(2, "0:0", "get")
+        self.bring(2, 0)
+        world.do(("fall", 2))
+        self.posts(0, world.do, ("lost", 0, 2))
+        self.told(world.net()[-1][1:], (0, 1))
+
+    def test_what_falls_bring_is_posted(self):
+        for seed in range(30):
+            world, draw = World(PLAN), random.Random(seed)
+            drawn_ways(world, draw, 40)
+            for house in world.up():
+                for other in range(3):
+                    if other not in world.up():
+                        world.do(("lost", house, other))
+                        self.told(world.house_at(house).post(), [])
 
 
 class Ways(Worlds):
@@ -284,7 +321,7 @@ class Ways(Worlds):
             self.no_way(thing)
         self.world.do(("fall", 1))
         for thing in (("lost", 0, True), ("lost", False, 1), ("lost", 0, [1]), ["lost", 0, 1], ("lost", 0, (1,)),
-                      ("lost", 1, 0), ("lost", 0, 0), ("lost", 0, 2), ("lost", 0, 4), ("lost", 4, 1), ("lost", 0, 1, 1),
+                      ("lost", 1, 0), ("lost", 0, 0), ("lost", 0, 2), ("lost", 0, 3), ("lost", 0, 4), ("lost", 0, -1), ("lost", 4, 1), ("lost", 0, 1, 1),
                       ("lost", 0, None), ("fall", 0, 1), ("again", 1)):
             self.no_way(thing)
         self.told(self.world.do(("lost", 0, 1)), None)
@@ -402,6 +439,14 @@ class Goes(Worlds):
 
 
 class Told(Worlds):
+    def test_letters_of_a_fallen_house_are_on_the_net(self):
+        self.world.offer(0, 1, "0#0")
+        self.world.do(("fall", 0))
+        self.assertIs(self.world.is_still(), False)
+        self.world.do(("take", 0))
+        self.told(self.world.net(), [])
+        self.assertIs(self.world.is_still(), True)
+
     def test_still(self):
         world = self.world
         self.assertIs(world.is_still(), True)
@@ -505,6 +550,24 @@ class Equal(Worlds):
                 with self.subTest((at, place)):
                     self.assertIs(world == second, at == place)
                     self.assertIs(world != second, at != place)
+
+    def test_the_order_of_what_several_houses_did(self):
+        worlds = []
+        for order in ((0, 1), (1, 0)):
+            world = World(PLAN)
+            for number in order:
+                world.make(number, "node")
+            worlds.append(world)
+        self.told([worlds[0].house_at(number) == worlds[1].house_at(number) for number in range(3)], [True] * 3)
+        self.assertFalse(worlds[0] == worlds[1])
+        one, other = worlds[0], worlds[0].copy()
+        for world, order in ((one, (0, 1)), (other, (1, 0))):
+            world.call(0, "0#0", "get")
+            world.call(1, "1#0", "get")
+            for number in order:
+                world.do(("turn", number))
+        self.told([one.house_at(number) == other.house_at(number) for number in range(3)], [True] * 3)
+        self.assertFalse(one == other)
 
     def test_equals_nothing_else(self):
         for thing in anything() + [self.world.house_at(0), self.world.outer(), PLAN]:
